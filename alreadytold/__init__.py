@@ -1,0 +1,1 @@
+"""Houses in which some letters come from later days, decided for all customs."""

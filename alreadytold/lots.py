@@ -1,0 +1,98 @@
+"""Moves between numbers: which come to which, closed lots and their beats.
+
+Moves are told as a list that has, for each number, the ascending numbers to which
+a move leads from it.
+"""
+
+from math import gcd
+
+
+def moves_of(table):
+    """Return the moves of a right table: where its entries are above 0."""
+    return [[number for number, share in enumerate(row) if share[0] > 0] for row in table]
+
+
+def _marks_reached(moves):
+    """Return for each number the numbers that it comes to, as the bits of a whole number."""
+    marks = []
+    for number, leads in enumerate(moves):
+        mark = 1 << number
+        for lead in leads:
+            mark = mark | (1 << lead)
+        marks.append(mark)
+    for middle, _ in enumerate(moves):
+        through = marks[middle]
+        marks = [mark | through if (mark >> middle) & 1 else mark for mark in marks]
+    return marks
+
+
+def closed_of(moves):
+    """Return all closed lots, each an ascending tuple, by their least numbers."""
+    marks = _marks_reached(moves)
+    lots = []
+    for number, mark in enumerate(marks):
+        lot = tuple([other for other, _ in enumerate(moves) if (mark >> other) & 1])
+        # The lot is closed if all that is reached comes back; its least number tells it once.
+        if lot[0] == number and [other for other in lot if marks[other] != mark] == []:
+            lots.append(lot)
+    return tuple(lots)
+
+
+def is_left(moves, lot):
+    """Tell whether some move leads out of a lot."""
+    for number in lot:
+        for lead in moves[number]:
+            if lead not in lot:
+                return True
+    return False
+
+
+def turns_from(moves, number):
+    """Return for each number the least number of moves from the told one, None for no way."""
+    turns = [None for _ in moves]
+    turns[number] = 0
+    queue = [number]
+    place = 0
+    while place < len(queue):
+        here = queue[place]
+        place += 1
+        for lead in moves[here]:
+            if turns[lead] is None:
+                turns[lead] = turns[here] + 1
+                queue.append(lead)
+    return turns
+
+
+def turns_to(moves, lot):
+    """Return for each number the least number of moves into a lot, None for no way."""
+    back = [[] for _ in moves]
+    for number, leads in enumerate(moves):
+        for lead in leads:
+            back[lead].append(number)
+    turns = [None for _ in moves]
+    queue = list(lot)
+    for number in lot:
+        turns[number] = 0
+    place = 0
+    while place < len(queue):
+        here = queue[place]
+        place += 1
+        for number in back[here]:
+            if turns[number] is None:
+                turns[number] = turns[here] + 1
+                queue.append(number)
+    return turns
+
+
+def beats_of_lot(moves, lot):
+    """Return the beats of a closed lot, the first one with its least number."""
+    turns = turns_from(moves, lot[0])
+    many = 0
+    for number in lot:
+        for lead in moves[number]:
+            # Any two ways to one number differ by a multiple of the number of beats.
+            many = gcd(many, turns[number] + 1 - turns[lead])
+    beats = [[] for _ in range(many)]
+    for number in lot:
+        beats[turns[number] % many].append(number)
+    return tuple([tuple(beat) for beat in beats])
