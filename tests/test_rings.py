@@ -200,18 +200,18 @@ class Meetings(unittest.TestCase):
         kinds = {}
         for _, chart, ins in small_charts(64, 80):
             table = slow_table(chart, ins)
+            many = len(table)
+            marks = [{number} for number in range(many)]
             found = None
-            for turns in range(70):
-                shared = [number for number in range(len(table))
-                          if all(row[number] > 0 for row in slow_power(table, turns))] if turns < 12 else []
+            # A primitive table of so many rows has met by then.
+            for turns in range(many * many + 2):
+                shared = set.intersection(*marks)
                 if shared:
-                    found = Meeting(turns, posts_of(chart)[shared[0]])
+                    found = Meeting(turns, posts_of(chart)[min(shared)])
                     break
+                marks = [{j for i in mark for j in range(many) if table[i][j] > 0} for mark in marks]
             meeting = meeting_of(chart, ins)
-            if found is not None:
-                self.assertEqual(meeting, found)
-            elif meeting is not None:
-                self.assertGreaterEqual(meeting.turns, 12)
+            self.assertEqual(meeting, found)
             lots = slow_closed(table)
             beats = beats_of(chart, ins, rings_of(chart, ins)[0])
             self.assertEqual(meeting is not None, len(lots) == 1 and len(beats) == 1)
