@@ -13,10 +13,10 @@ def whole_parts(ratios):
     return [ratio[0] * (bottom // ratio[1]) for ratio in ratios], bottom
 
 
-def whole_rows(table):
-    """Return for each row of a table its bottom and the couples (number, top) of what is not 0."""
+def whole_rows(ratio_rows):
+    """Return for each row of ratios its bottom and the couples (number, top) of what is not 0."""
     rows = []
-    for ratios in table:
+    for ratios in ratio_rows:
         tops, bottom = whole_parts(ratios)
         rows.append((bottom, [(number, top) for number, top in enumerate(tops) if top != 0]))
     return rows

@@ -112,7 +112,7 @@ def _balanced(away):
     most = 1
     for number in leaving:
         most = most * number
-    # Place 0 has 1; what comes to each other place, less what leaves it, is minus its part of that.
+    # Place 0 counts 1. At each other place, what leaves it less what comes from the others is what comes from 0.
     square = [[leaving[place] if place == other else -away[other][place] for other in range(1, many)]
               for place in range(1, many)]
     right = [away[0][place] for place in range(1, many)]
@@ -124,17 +124,16 @@ def _balanced(away):
 def staying_numbers(rows, lot):
     """Return a whole number for each of a closed lot, in the proportions of its shares that stay.
 
-    The rows are those of whole_rows.
+    The rows are those of whole_rows for the lot alone, in its order.
     """
-    moving = [number for number in lot if len(rows[number][1]) > 1]
-    if moving == []:
+    if [parts for _, parts in rows if len(parts) > 1] == []:
         return [1 for _ in lot]
     places = {number: place for place, number in enumerate(lot)}
     away = []
-    for number in lot:
+    for place, (_, parts) in enumerate(rows):
         row = [0 for _ in lot]
-        for goal, part in rows[number][1]:
-            if goal != number:
-                row[places[goal]] = part
+        for number, part in parts:
+            if places[number] != place:
+                row[places[number]] = part
         away.append(row)
-    return [rows[number][0] * part for number, part in zip(lot, _balanced(away))]
+    return [bottom * number for (bottom, _), number in zip(rows, _balanced(away))]

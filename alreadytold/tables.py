@@ -52,7 +52,7 @@ def _check_closed(table, lot):
 
 def shares_of_lot(table, lot):
     """Return the only shares of a right table that stay and are 0 outside a closed lot."""
-    numbers = staying_numbers(whole_rows(table), lot)
+    numbers = staying_numbers(whole_rows([table[number] for number in lot]), lot)
     total = sum(numbers)
     shares = [ZERO for _ in table]
     for number, part in zip(lot, numbers):

@@ -1,0 +1,414 @@
+"""The rules of LANGUAGE.md, as far as the text of a file shows them.
+
+The checks are stricter than the rules in places: they allow what this package uses.
+"""
+
+import ast
+import builtins
+import os
+import re
+import unittest
+
+import alreadytold
+
+FOLDER = os.path.dirname(alreadytold.__file__)
+LIBRARY = {"math": {"gcd", "lcm", "isqrt", "comb", "perm", "factorial"}, "heapq": {"heappush", "heappop", "heapify"}}
+BUILTINS = {"len", "range", "enumerate", "zip", "min", "max", "sum", "abs", "sorted", "reversed", "int", "str", "bool",
+            "list", "tuple", "dict", "set", "isinstance", "ord", "repr", "any", "all", "divmod", "ValueError"}
+METHODS = set("""append clear copy count endswith extend find get index insert isalnum isalpha isdigit islower isspace
+    isupper items join keys ljust lower lstrip partition pop remove replace reverse rfind rjust rpartition rsplit rstrip
+    setdefault split splitlines startswith strip update upper values zfill bit_length add discard""".split())
+CHANGING = {"append", "clear", "extend", "insert", "pop", "remove", "reverse", "setdefault", "update"}
+DUNDER = {"__init__", "__eq__", "__and__", "__or__", "__invert__", "__contains__"}
+ONCE = {"zip", "enumerate", "reversed", "range", "items", "keys", "values"}
+TAKERS = {"list", "tuple", "dict", "sorted", "sum", "any", "all", "enumerate", "zip", "min", "max"}
+KEYWORDS = {"sorted": {"key", "reverse"}, "min": {"key", "default"}, "max": {"key", "default"}, "sum": {"start"},
+            "enumerate": {"start"}, "zip": {"strict"}}
+NOWHERE = {"register", "mro", "elements", "open", "input", "law", "version_info", "with_traceback", "add_note"}
+NO_NAMES = set("""attrgetter breakpoint builtins compile copyright credits delattr dir eval exec exit gc getattr globals
+    hasattr help id importlib license locals methodcaller os quit setattr super type vars sys""".split())
+WORDS = re.compile(r"\b(type|typing|enum|Enum|Generic|Protocol|ABC|namedtuple|abstractmethod)\b|dataclass|overload")
+
+
+def sources():
+    for name in sorted(os.listdir(FOLDER)):
+        if name != "__pycache__":
+            with open(os.path.join(FOLDER, name), encoding="utf-8") as file:
+                yield name, file.read()
+
+
+def trees():
+    for name, text in sources():
+        tree = ast.parse(text)
+        for parent in ast.walk(tree):
+            for child in ast.iter_child_nodes(parent):
+                child.parent = parent
+        yield name, tree
+
+
+def walk(tree, *kinds):
+    return [node for node in ast.walk(tree) if isinstance(node, kinds)]
+
+
+def functions_of(tree):
+    return walk(tree, ast.FunctionDef)
+
+
+def docstrings(tree):
+    holders = walk(tree, ast.Module, ast.ClassDef, ast.FunctionDef)
+    return [holder.body[0].value for holder in holders if ast.get_docstring(holder, clean=False) is not None]
+
+
+def bound_names(tree):
+    """All names that functions bind: parameters, targets, nested functions."""
+    names = [(node.arg, node) for node in walk(tree, ast.arg)]
+    names += [(node.id, node) for node in walk(tree, ast.Name) if isinstance(node.ctx, ast.Store)]
+    names += [(node.name, node) for node in walk(tree, ast.ExceptHandler) if node.name]
+    return names
+
+
+def top_names(tree):
+    names = []
+    for node in tree.body:
+        if isinstance(node, (ast.FunctionDef, ast.ClassDef)):
+            names.append(node.name)
+        elif isinstance(node, ast.ImportFrom):
+            names += [alias.name for alias in node.names]
+        elif isinstance(node, ast.Assign):
+            names += [target.id for target in node.targets]
+    return names
+
+
+def called_name(node):
+    if isinstance(node, ast.Call):
+        if isinstance(node.func, ast.Name):
+            return node.func.id
+        if isinstance(node.func, ast.Attribute):
+            return node.func.attr
+    return None
+
+
+def is_iterated_at_once(node):
+    parent = node.parent
+    if isinstance(parent, (ast.For, ast.comprehension)):
+        return parent.iter is node
+    return isinstance(parent, ast.Call) and isinstance(parent.func, ast.Name) and parent.func.id in TAKERS
+
+
+class Form(unittest.TestCase):
+    def each(self, *kinds):
+        for name, tree in trees():
+            for node in walk(tree, *kinds):
+                yield f"{name}:{getattr(node, 'lineno', 0)}", node
+
+    def test_files_and_sizes(self):
+        for name, text in sources():
+            self.assertRegex(name, r"^(__init__|[a-z][a-z0-9_]*)\.py$")
+            self.assertLess(text.count("\n"), 400, name)
+            self.assertTrue(text.endswith("\n") and not text.endswith("\n\n"), name)
+            self.assertEqual([sign for sign in text if not (" " <= sign <= "~" or sign == "\n")], [], name)
+            for number, line in enumerate(text.split("\n"), 1):
+                self.assertLessEqual(len(line), 120, f"{name}:{number}")
+                self.assertEqual(line, line.rstrip(), f"{name}:{number}")
+
+    def test_functions_are_short(self):
+        for place, node in self.each(ast.FunctionDef):
+            self.assertLessEqual(node.end_lineno - node.lineno + 1, 40, place)
+
+    def test_no_other_statements_and_expressions(self):
+        barred = (ast.AsyncFunctionDef, ast.Global, ast.Nonlocal, ast.Lambda, ast.GeneratorExp, ast.SetComp, ast.Set,
+                  ast.NamedExpr, ast.Await, ast.Import, ast.Starred, ast.AnnAssign, ast.With, ast.Match, ast.Delete,
+                  ast.Div, ast.MatMult)
+        for place, node in self.each(*barred):
+            self.fail(f"{place} {type(node).__name__}")
+        for place, node in self.each(ast.Constant):
+            self.assertNotIsInstance(node.value, (float, complex, bytes), place)
+
+    def test_module_level(self):
+        for name, tree in trees():
+            for place, node in enumerate(tree.body):
+                if isinstance(node, ast.Expr):
+                    self.assertTrue(place == 0 and isinstance(node.value, ast.Constant), name)
+                else:
+                    self.assertIsInstance(node, (ast.ImportFrom, ast.FunctionDef, ast.ClassDef, ast.Assign), name)
+                if isinstance(node, ast.Assign):
+                    self.assertEqual(len(node.targets), 1)
+                    self.assertIsInstance(node.targets[0], ast.Name)
+                    self.assertEqual(walk(node.value, ast.Call, ast.List, ast.Dict), [], name)
+            names = top_names(tree)
+            self.assertEqual(sorted(names), sorted(set(names)), name)
+            imports = [isinstance(node, ast.ImportFrom) for node in tree.body[1:]]
+            self.assertEqual(imports, sorted(imports, reverse=True), name)
+
+    def test_imports(self):
+        defined = {}
+        leads = {}
+        for name, tree in trees():
+            module = "alreadytold." + name[:-3]
+            defined[module] = [node.name for node in tree.body if isinstance(node, (ast.FunctionDef, ast.ClassDef))]
+            defined[module] += [node.targets[0].id for node in tree.body if isinstance(node, ast.Assign)]
+        for name, tree in trees():
+            used = {node.id for node in walk(tree, ast.Name)}
+            goals = leads.setdefault("alreadytold." + name[:-3], [])
+            for node in walk(tree, ast.ImportFrom):
+                self.assertEqual(node.level, 0)
+                for alias in node.names:
+                    self.assertIsNone(alias.asname)
+                    self.assertIn(alias.name, used, f"{name} does not use {alias.name}")
+                    known = LIBRARY.get(node.module) or defined[node.module]
+                    self.assertIn(alias.name, known, name)
+                    self.assertFalse(alias.name.startswith("_"), name)
+                if node.module in defined:
+                    goals.append(node.module)
+        self.check_no_rounds(leads)
+
+    def check_no_rounds(self, leads):
+        done = []
+        while len(done) < len(leads):
+            ready = [name for name in leads if name not in done and all(goal in done for goal in leads[name])]
+            self.assertTrue(ready, f"imports go round: {set(leads) - set(done)}")
+            done += ready
+
+    def test_names(self):
+        known = set(dir(builtins))
+        for name, tree in trees():
+            top = set(top_names(tree))
+            for bound, node in bound_names(tree):
+                place = f"{name}:{node.lineno} {bound}"
+                self.assertNotIn(bound, known, place)
+                self.assertNotIn(bound, NO_NAMES | NOWHERE, place)
+                self.assertRegex(bound, r"^(_|_?[a-zA-Z][a-zA-Z0-9_]*)$", place)
+                in_function = any(node in walk(function, ast.AST) for function in functions_of(tree))
+                if in_function:
+                    self.assertNotIn(bound, top, place)
+            for node in walk(tree, ast.FunctionDef, ast.ClassDef):
+                self.assertTrue(node.name in DUNDER or not node.name.startswith("__"), node.name)
+                self.assertNotIn(node.name, known | NO_NAMES | NOWHERE)
+            for node in walk(tree, ast.Attribute):
+                self.assertNotIn(node.attr, NOWHERE | {"format", "args", "sort"})
+
+    def test_only_these_builtins_are_used(self):
+        for name, tree in trees():
+            own = set(top_names(tree)) | {bound for bound, _ in bound_names(tree)}
+            for node in walk(tree, ast.Name):
+                if node.id not in own:
+                    self.assertIn(node.id, BUILTINS | {"property"}, f"{name}:{node.lineno}")
+                if node.id in BUILTINS - {"ValueError"} and node.id not in own:
+                    call = isinstance(node.parent, ast.Call) and node.parent.func is node
+                    kinds = node.parent.elts if isinstance(node.parent, ast.Tuple) else [node]
+                    tested = node.parent.parent if isinstance(node.parent, ast.Tuple) else node.parent
+                    self.assertTrue(call or (called_name(tested) == "isinstance" and kinds), f"{name}:{node.lineno}")
+                if node.id == "_":
+                    self.assertIsInstance(node.ctx, ast.Store, f"{name}:{node.lineno}")
+
+    def test_calls(self):
+        own = {node.name for _, tree in trees() for node in functions_of(tree)}
+        for place, node in self.each(ast.Call):
+            name = called_name(node)
+            if isinstance(node.func, ast.Attribute):
+                self.assertIn(name, METHODS | own, place)
+                if name not in own:
+                    self.assertEqual(node.keywords, [], place)
+            elif name in BUILTINS:
+                self.assertLessEqual({keyword.arg for keyword in node.keywords}, KEYWORDS.get(name, set()), place)
+            self.assertIsInstance(node.func, (ast.Name, ast.Attribute), place)
+
+    def test_methods_are_called_where_they_stand(self):
+        for place, node in self.each(ast.Attribute):
+            if node.attr in METHODS - {"index", "count", "find", "get", "copy", "add"}:
+                self.assertTrue(isinstance(node.parent, ast.Call) and node.parent.func is node, place)
+
+    def test_classes(self):
+        classes = {node.name for _, tree in trees() for node in walk(tree, ast.ClassDef)}
+        for place, node in self.each(ast.ClassDef):
+            self.assertEqual(node.decorator_list, [], place)
+            self.assertEqual(node.keywords, [], place)
+            for row in node.body:
+                doc = isinstance(row, ast.Expr) and isinstance(row.value, ast.Constant)
+                self.assertTrue(doc or isinstance(row, ast.FunctionDef), place)
+            methods = [row.name for row in node.body if isinstance(row, ast.FunctionDef)]
+            self.assertEqual(len(methods), len(set(methods)), place)
+            stored = {target.attr for target in walk(node, ast.Attribute) if isinstance(target.ctx, ast.Store)}
+            self.assertEqual(stored & set(methods), set(), place)
+        for name, tree in trees():
+            for node in walk(tree, ast.Name):
+                if node.id in classes and isinstance(node.ctx, ast.Load):
+                    parent = node.parent
+                    right = (isinstance(parent, ast.Call) and (parent.func is node or called_name(parent) == "isinstance")
+                             or isinstance(parent, (ast.ClassDef, ast.ExceptHandler, ast.Raise)))
+                    self.assertTrue(right, f"{name}:{node.lineno}")
+        for place, node in self.each(ast.FunctionDef):
+            for decorator in node.decorator_list:
+                self.assertTrue(isinstance(decorator, ast.Name) and decorator.id == "property", place)
+            if node.name == "__eq__":
+                self.assertEqual([type(row) for row in node.body], [ast.Return], place)
+
+    def test_tries_and_raises(self):
+        errors = {node.name for name, tree in trees() if name == "errors.py" for node in walk(tree, ast.ClassDef)}
+        for place, node in self.each(ast.ExceptHandler):
+            self.assertTrue(isinstance(node.type, ast.Name) and node.type.id in errors | {"KeyError"}, place)
+        for place, node in self.each(ast.Raise):
+            self.assertTrue(isinstance(node.exc, ast.Call) and called_name(node.exc) in errors, place)
+            self.assertIsNone(node.cause, place)
+            self.assertEqual(node.exc.keywords, [], place)
+        for place, node in self.each(ast.Try):
+            self.assertEqual((node.finalbody, node.orelse), ([], []), place)
+
+    def test_comparisons_by_is(self):
+        for place, node in self.each(ast.Compare):
+            for sign, thing in zip(node.ops, node.comparators):
+                if isinstance(sign, (ast.Is, ast.IsNot)):
+                    self.assertTrue(isinstance(thing, ast.Constant) and thing.value in (None, True, False), place)
+
+    def test_iterated_at_once(self):
+        generators = set()
+        for _, tree in trees():
+            for node in functions_of(tree):
+                if walk(node, ast.Yield, ast.YieldFrom):
+                    generators.add(node.name)
+        named = [node.name for _, tree in trees() for node in functions_of(tree)]
+        for name in generators:
+            self.assertEqual(named.count(name), 1, name)
+        for place, node in self.each(ast.Call):
+            if called_name(node) in ONCE | generators:
+                ranged = called_name(node) == "range" and isinstance(node.parent, ast.Compare)
+                self.assertTrue(is_iterated_at_once(node) or ranged, place)
+            if called_name(node) in generators:
+                for thing in node.args:
+                    self.assertIsInstance(thing, (ast.Name, ast.Attribute, ast.Constant), place)
+            if called_name(node) in ("reversed", "len") and node.args:
+                self.assertNotIn(called_name(node.args[0]), ONCE | generators, place)
+        for name, tree in trees():
+            for node in walk(tree, ast.Name):
+                if node.id in generators and isinstance(node.ctx, ast.Load):
+                    self.assertTrue(isinstance(node.parent, ast.Call) and node.parent.func is node, name)
+
+    def test_what_is_iterated_over_is_not_changed(self):
+        for place, node in self.each(ast.For):
+            roots = {ast.dump(part) for part in walk(node.iter, ast.Name, ast.Attribute)}
+            for row in node.body:
+                for part in ast.walk(row):
+                    if isinstance(part, ast.Call) and called_name(part) in CHANGING:
+                        self.assertNotIn(ast.dump(part.func.value), roots, place)
+                    if isinstance(part, (ast.Assign, ast.AugAssign)):
+                        targets = part.targets if isinstance(part, ast.Assign) else [part.target]
+                        for target in targets:
+                            if isinstance(target, ast.Subscript):
+                                self.assertNotIn(ast.dump(target.value), roots, place)
+
+    def test_sets(self):
+        for place, node in self.each(ast.Call):
+            if called_name(node) == "set":
+                parent = node.parent
+                taken = called_name(parent) in ("sorted", "len") and len(parent.args) == 1 and not parent.keywords
+                self.assertTrue(taken, place)
+
+    def test_exponents(self):
+        for place, node in self.each(ast.BinOp):
+            if isinstance(node.op, ast.Pow):
+                self.assertTrue(isinstance(node.right, ast.Constant) and 0 <= node.right.value <= 64, place)
+        for place, node in self.each(ast.Constant):
+            if isinstance(node.value, int):
+                self.assertLess(abs(node.value), 10 ** 100, place)
+
+    def test_strings(self):
+        for name, tree in trees():
+            docs = docstrings(tree)
+            for node in walk(tree, ast.Constant):
+                if isinstance(node.value, str):
+                    self.assertNotIn("%", node.value, name)
+                    if node not in docs:
+                        self.assertIsNone(WORDS.search(node.value), name)
+            for node in walk(tree, ast.JoinedStr):
+                self.assertEqual(node.lineno, node.end_lineno)
+                for part in walk(node, ast.FormattedValue):
+                    self.assertEqual([thing for thing in walk(part.value, ast.Constant)
+                                      if isinstance(thing.value, str)], [])
+                    self.assertIsNone(part.format_spec)
+        for name, text in sources():
+            for escape in re.findall(r"\\.", text):
+                self.assertIn(escape, ("\\n", "\\t", "\\\\", '\\"', "\\'"), name)
+
+    def test_comprehensions(self):
+        for place, node in self.each(ast.ListComp, ast.DictComp):
+            bound = {part.id for generator in node.generators for part in walk(generator.target, ast.Name)} - {"_"}
+            outer = node.parent
+            while outer is not None:
+                if isinstance(outer, (ast.ListComp, ast.DictComp)):
+                    names = {part.id for generator in outer.generators for part in walk(generator.target, ast.Name)}
+                    self.assertEqual(bound & names, set(), place)
+                outer = getattr(outer, "parent", None)
+
+    def test_private_names_stay_in_their_file(self):
+        for name, tree in trees():
+            own = set(top_names(tree))
+            for node in walk(tree, ast.Name):
+                if node.id.startswith("_") and node.id != "_" and isinstance(node.ctx, ast.Load):
+                    self.assertIn(node.id, own, name)
+
+
+class Interface(unittest.TestCase):
+    LISTED = {
+        "ratios": "ZERO ONE is_whole is_ratio make_ratio plus minus times over compare sum_of ratio_text",
+        "wires": "is_name is_wire is_filling count_fillings fillings_of filling_number filling_by_number",
+        "boxes": "Box",
+        "charts": "place_of check_wire maker_of check_ins check_post check_sure posts_of all_ins Chart",
+        "working": "worths_at worked",
+        "along": "renamed_chart exchanged_worths ordered_chart later_chart",
+        "joining": "joined_charts",
+        "charttext": "box_text chart_text read_chart",
+        "stories": "all_stories stories_of_post count_stories story_by_number number_of_story boxes_against story_fault",
+        "tellings": "tells story_sure quarrels_of why_quarrel walk_from Sure Two Walk",
+        "tables": "check_table closed_lots lot_shares lot_beats",
+        "turning": "turning_table check_shares shares_after mean_shares_after bounds_after",
+        "rings": "check_lot rings_of beats_of rings_every turns_to_rings shortest_walk ring_fault only_ring meeting_of "
+                 "OneRing TwoRings Meeting",
+        "staying": "own_shares mixed_shares mixture_of own_shares_every shares_stay lasting_posts",
+        "spans": "outs_of span_of_outs staying_with staying_fault Span",
+        "counts": "Counts",
+    }
+    METHODS = {"Box": "is_sure made_by with_entry on_day __eq__", "Chart": "is_sure with_box with_day with_outs __eq__",
+               "Counts": "number_at __eq__", "Sure": "__eq__", "Two": "__eq__", "Walk": "__eq__", "OneRing": "__eq__",
+               "TwoRings": "__eq__", "Meeting": "__eq__", "Span": "__eq__"}
+    PARAMETERS = {
+        "is_whole": "thing low high", "make_ratio": "top bottom", "is_filling": "sizes thing",
+        "filling_number": "sizes filling", "filling_by_number": "sizes number", "place_of": "chart name",
+        "check_ins": "chart ins unknown", "worths_at": "chart filling names", "worked": "chart ins post",
+        "renamed_chart": "chart pairs", "exchanged_worths": "chart name order", "ordered_chart": "chart order",
+        "later_chart": "chart days", "joined_charts": "chart other", "box_text": "box", "read_chart": "text",
+        "all_stories": "chart ins", "stories_of_post": "chart ins post", "story_by_number": "chart ins number",
+        "number_of_story": "chart ins filling", "boxes_against": "chart filling", "story_fault": "chart ins filling",
+        "tells": "chart ins wire", "story_sure": "chart ins wire", "quarrels_of": "chart", "why_quarrel": "chart ins",
+        "walk_from": "chart ins post", "check_table": "table", "lot_shares": "table lot", "lot_beats": "table lot",
+        "turning_table": "chart ins", "check_shares": "chart shares", "shares_after": "chart ins shares turns",
+        "mean_shares_after": "chart ins shares turns", "bounds_after": "chart ins post turns", "check_lot": "chart lot",
+        "beats_of": "chart ins ring", "rings_every": "chart ins turns", "shortest_walk": "chart ins post lot",
+        "ring_fault": "chart ins lot", "own_shares": "chart ins ring", "mixed_shares": "chart ins weights",
+        "mixture_of": "chart ins shares", "own_shares_every": "chart ins turns", "shares_stay": "chart ins shares",
+        "outs_of": "chart ins shares", "span_of_outs": "chart ins outs", "staying_with": "chart ins outs share",
+        "staying_fault": "chart ins outs share shares",
+    }
+
+    def test_names_stand_in_their_files(self):
+        found = {name[:-3]: tree for name, tree in trees()}
+        for module, names in self.LISTED.items():
+            defined = [node.name for node in found[module].body if isinstance(node, (ast.FunctionDef, ast.ClassDef))]
+            defined += [node.targets[0].id for node in found[module].body if isinstance(node, ast.Assign)]
+            for name in names.split():
+                self.assertIn(name, defined, module)
+
+    def test_methods_stand_in_their_classes(self):
+        classes = {node.name: node for _, tree in trees() for node in walk(tree, ast.ClassDef)}
+        for name, methods in self.METHODS.items():
+            defined = [row.name for row in classes[name].body if isinstance(row, ast.FunctionDef)]
+            for method in methods.split():
+                self.assertIn(method, defined, name)
+
+    def test_parameters(self):
+        functions = {node.name: node for _, tree in trees() for node in tree.body if isinstance(node, ast.FunctionDef)}
+        for name, parameters in self.PARAMETERS.items():
+            self.assertEqual([arg.arg for arg in functions[name].args.args], parameters.split(), name)
+
+
+if __name__ == "__main__":
+    unittest.main()
