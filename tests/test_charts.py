@@ -136,6 +136,11 @@ class Charts(unittest.TestCase):
         outs.append("x")
         self.assertEqual(chart, Chart(WIRES, [copier(0, [], [A])], ["a"]))
 
+    def test_six_boxes_and_six_outs(self):
+        six = [(name, 2) for name in "abcdef"]
+        chart = Chart(six, [copier(0, [], [wire]) for wire in six], list("fedcba"))
+        self.assertEqual((len(chart.boxes), chart.outs), (6, tuple("fedcba")))
+
     def test_letters_by_days(self):
         maker = copier(3, [], [A])
         for day, letters in [(2, ("a",)), (3, ("a",)), (4, ())]:
@@ -181,6 +186,8 @@ class Charts(unittest.TestCase):
         self.assertEqual(other, Chart(WIRES, [one, copier(0, [A], [B])], ["b"]))
         self.assertEqual(other.letters, ("a",))
         self.assertEqual(chart, Chart(WIRES, [one, two], ["b"]))
+        later = Box(5, [X], [A], [(1,), (0,)])
+        self.assertEqual(chart.with_box(0, later), Chart(WIRES, [later, two], ["b"]))
         for index in [-1, 2, True, None, "0"]:
             with self.assertRaises(NoSuchBox) as caught:
                 chart.with_box(index, None)
@@ -195,6 +202,7 @@ class Charts(unittest.TestCase):
         chart = Chart(WIRES, [one, two], ["b"])
         self.assertEqual(chart.with_day(1, 0), Chart(WIRES, [one, copier(0, [A], [B])], ["b"]))
         self.assertEqual(chart.boxes[1].day, 1)
+        self.assertEqual(chart.with_day(0, 9), Chart(WIRES, [copier(9, [X], [A]), two], ["b"]))
         for index in [-1, 2, False, None]:
             with self.assertRaises(NoSuchBox):
                 chart.with_day(index, None)
@@ -253,6 +261,7 @@ class Checks(unittest.TestCase):
             self.wrong(check_ins, BadIns, 0, [], unknown)
             self.wrong(check_ins, BadIns, 1, [2], unknown)
             self.wrong(check_ins, BadIns, 0, [3], unknown)
+            self.wrong(check_ins, BadIns, 1, [0, -1], unknown)
             self.wrong(check_ins, BadIns, 1, [0, 2], unknown)
             self.wrong(check_ins, BadIns, 2, [0, 1, 0], unknown)
             self.wrong(check_ins, BadIns, 2, [0, 1, None, None], unknown)
