@@ -137,10 +137,16 @@ class Lots(unittest.TestCase):
                          [fraction(share) for share in shares])
         self.assertEqual(shares[1], ratio(Fraction(2, 10 ** 99) / (1 + Fraction(3, 10 ** 99))))
 
-    def test_bottoms_that_the_solver_uses_itself(self):
-        # Rows whose numbers vanish up to the solver's first moduli.
-        for prime in (2 ** 61 - 1, (2 ** 61 - 1) * (2 ** 61 + 1), 2 ** 521 // 2 ** 200 - 1):
-            table = [[ZERO, (1, prime), ratio(Fraction(prime - 1, prime))], [ratio(Fraction(prime - 2, prime)), (2, prime), ZERO],
+    def test_numbers_that_vanish_up_to_the_moduli_of_the_solver(self):
+        first, second = 2 ** 61 - 1, 2 ** 61 + 1
+        bottom = 2 ** 200
+        for top in (first, first * second, first * 3, 3 * first * second, first * second * (2 ** 61 + 3)):
+            table = [[ZERO, ONE], [(top, bottom), (bottom - top, bottom)]]
+            whole = top + bottom
+            self.assertEqual(lot_shares(table, (0, 1)), (ratio(Fraction(top, whole)), ratio(Fraction(bottom, whole))))
+        for prime in (first, first * second, 2 ** 521 // 2 ** 200 - 1):
+            table = [[ZERO, (1, prime), ratio(Fraction(prime - 1, prime))],
+                     [ratio(Fraction(prime - 2, prime)), (2, prime), ZERO],
                      [(1, prime), ratio(Fraction(prime - 1, prime)), ZERO]]
             shares = [fraction(share) for share in lot_shares(table, (0, 1, 2))]
             self.assertEqual(after_turn(fractions(table), shares), shares)
