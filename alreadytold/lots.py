@@ -47,16 +47,17 @@ def is_left(moves, lot):
     return False
 
 
-def turns_from(moves, number):
-    """Return for each number the least number of moves from the told one, None for no way."""
-    turns = [None for _ in moves]
-    turns[number] = 0
-    queue = [number]
+def _turns_over(leads, lot):
+    """Return for each number the least number of steps by leads from some number of a lot, or None."""
+    turns = [None for _ in leads]
+    for number in lot:
+        turns[number] = 0
+    queue = list(lot)
     place = 0
     while place < len(queue):
         here = queue[place]
         place += 1
-        for lead in moves[here]:
+        for lead in leads[here]:
             if turns[lead] is None:
                 turns[lead] = turns[here] + 1
                 queue.append(lead)
@@ -69,24 +70,12 @@ def turns_to(moves, lot):
     for number, leads in enumerate(moves):
         for lead in leads:
             back[lead].append(number)
-    turns = [None for _ in moves]
-    queue = list(lot)
-    for number in lot:
-        turns[number] = 0
-    place = 0
-    while place < len(queue):
-        here = queue[place]
-        place += 1
-        for number in back[here]:
-            if turns[number] is None:
-                turns[number] = turns[here] + 1
-                queue.append(number)
-    return turns
+    return _turns_over(back, lot)
 
 
 def beats_of_lot(moves, lot):
     """Return the beats of a closed lot, the first one with its least number."""
-    turns = turns_from(moves, lot[0])
+    turns = _turns_over(moves, lot[:1])
     many = 0
     for number in lot:
         for lead in moves[number]:

@@ -35,7 +35,7 @@ def _pivot_of(rows, place, modulus):
 def _inverse_rows(square, modulus):
     """Return the inverse of a square of numbers up to the modulus, or None."""
     many = len(square)
-    rows = [[number % modulus for number in row] + [1 if place == index else 0 for place in range(many)]
+    rows = [[number % modulus for number in row] + [1 if column == index else 0 for column in range(many)]
             for index, row in enumerate(square)]
     for place in range(many):
         index, inverse = _pivot_of(rows, place, modulus)

@@ -3,12 +3,11 @@
 from alreadytold.charts import check_ins, posts_of
 from alreadytold.errors import BadWeights, NotStaying
 from alreadytold.lots import closed_of, moves_of
-from alreadytold.ratios import ONE, ZERO, is_ratio, make_ratio, sum_of, times
+from alreadytold.ratios import ZERO, make_ratio, sum_of, times
 from alreadytold.rings import check_every, lots_every, posts_numbered, ring_numbers
 from alreadytold.scaling import turned, whole_parts, whole_rows
 from alreadytold.tables import shares_of_lot
-from alreadytold.turning import check_shares, turning_table
-from alreadytold.wires import is_sequence
+from alreadytold.turning import check_shares, turning_table, wrong_shares
 
 
 def own_shares(chart, ins, ring):
@@ -35,15 +34,9 @@ def own_shares_every(chart, ins, turns):
 
 def _check_weights(many, weights):
     """Return weights, one for each ring, as a tuple."""
-    if not is_sequence(weights, many, many):
-        raise BadWeights(0, "many")
-    for index, weight in enumerate(weights):
-        if not is_ratio(weight):
-            raise BadWeights(index, "ratio")
-        if weight[0] < 0:
-            raise BadWeights(index, "less")
-    if sum_of(weights) != ONE:
-        raise BadWeights(0, "sum")
+    wrong = wrong_shares(many, weights)
+    if wrong is not None:
+        raise BadWeights(wrong[0], wrong[1])
     return tuple(weights)
 
 

@@ -29,18 +29,23 @@ def turning_table(chart, ins):
     return tuple([_sent_shares(chart, ins, post) for post in posts_of(chart)])
 
 
-def check_shares(chart, shares):
-    """Return shares of the posts as a tuple."""
-    many = count_fillings(chart.letter_sizes)
+def wrong_shares(many, shares):
+    """Return (index, word) for what is wrong with a row of so many shares of the sum 1, or None."""
     if not is_sequence(shares, many, many):
-        raise BadShares(0, "many")
+        return (0, "many")
     for index, share in enumerate(shares):
         if not is_ratio(share):
-            raise BadShares(index, "ratio")
+            return (index, "ratio")
         if share[0] < 0:
-            raise BadShares(index, "less")
-    if sum_of(shares) != ONE:
-        raise BadShares(0, "sum")
+            return (index, "less")
+    return (0, "sum") if sum_of(shares) != ONE else None
+
+
+def check_shares(chart, shares):
+    """Return shares of the posts as a tuple."""
+    wrong = wrong_shares(count_fillings(chart.letter_sizes), shares)
+    if wrong is not None:
+        raise BadShares(wrong[0], wrong[1])
     return tuple(shares)
 
 

@@ -1,10 +1,11 @@
 """Charts for the tests, and slow ways that follow the document word by word."""
 
+import random
 from fractions import Fraction
 from itertools import product
 
 from alreadytold.boxes import Box
-from alreadytold.charts import Chart
+from alreadytold.charts import Chart, all_ins, posts_of
 
 NAMES = ["a", "b", "c", "d", "e", "f", "g", "h"]
 ODD_THINGS = [None, True, False, 1, -1, 0, 2, "a", "", "ab", "12", b"a", (), [], {}, {1: 2}, set(), object(),
@@ -60,6 +61,16 @@ def random_chart(rng, chance=0.0, days=2, wires=5):
             return Chart(told, boxes, outs)
         except ValueError:
             continue
+
+
+def small_charts(seed, many):
+    """Charts with 2 to 12 posts, each with some of its ins; two of three may have chance boxes."""
+    rng = random.Random(seed)
+    while many:
+        chart = random_chart(rng, chance=0.5 if many % 3 else 0.0)
+        if 2 <= len(posts_of(chart)) <= 12:
+            many -= 1
+            yield rng, chart, rng.choice(all_ins(chart))
 
 
 def slow_letters(chart):

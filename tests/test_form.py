@@ -339,6 +339,18 @@ class Form(unittest.TestCase):
                     self.assertEqual(bound & names, set(), place)
                 outer = getattr(outer, "parent", None)
 
+    def test_nested_comprehensions_take_names_of_their_own(self):
+        kinds = (ast.ListComp, ast.DictComp)
+        for place, function in self.each(ast.FunctionDef):
+            inside = {id(part) for node in walk(function, *kinds) for part in ast.walk(node)}
+            assigned = {node.id for node in walk(function, ast.Name)
+                        if isinstance(node.ctx, ast.Store) and id(node) not in inside}
+            for node in walk(function, *kinds):
+                for part in walk(node, *kinds):
+                    if part is not node:
+                        bound = {name.id for generator in part.generators for name in walk(generator.target, ast.Name)}
+                        self.assertEqual((bound - {"_"}) & assigned, set(), place)
+
     def test_private_names_stay_in_their_file(self):
         for name, tree in trees():
             own = set(top_names(tree))
@@ -403,6 +415,23 @@ class Interface(unittest.TestCase):
             defined = [row.name for row in classes[name].body if isinstance(row, ast.FunctionDef)]
             for method in methods.split():
                 self.assertIn(method, defined, name)
+
+    CONSTRUCTORS = {
+        "Box": "day takes makes entries", "Chart": "wires boxes outs", "Counts": "ins letters outs rows", "Sure": "worth",
+        "Two": "one other", "Walk": "posts back", "OneRing": "ring", "TwoRings": "one other", "Meeting": "turns post",
+        "Span": "least greatest low high", "made_by": "filling", "with_entry": "filling entry", "on_day": "day",
+        "with_box": "index box", "with_day": "index day", "with_outs": "outs", "number_at": "told sent",
+    }
+
+    def test_parameters_of_methods(self):
+        found = {}
+        for _, tree in trees():
+            for node in walk(tree, ast.ClassDef):
+                for row in node.body:
+                    if isinstance(row, ast.FunctionDef):
+                        found[node.name if row.name == "__init__" else row.name] = [arg.arg for arg in row.args.args]
+        for name, parameters in self.CONSTRUCTORS.items():
+            self.assertEqual(found[name], ["self"] + parameters.split(), name)
 
     def test_parameters(self):
         functions = {node.name: node for _, tree in trees() for node in tree.body if isinstance(node, ast.FunctionDef)}

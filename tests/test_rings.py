@@ -1,14 +1,13 @@
-import random
 import unittest
 from math import gcd
 
 from alreadytold.boxes import Box
-from alreadytold.charts import Chart, all_ins, posts_of
+from alreadytold.charts import Chart, posts_of
 from alreadytold.errors import BadIns, BadLot, BadPost, BadTurns, NoRing
 from alreadytold.rings import (Meeting, OneRing, TwoRings, beats_of, check_lot, meeting_of, only_ring, ring_fault,
                                rings_every, rings_of, shortest_walk, turns_to_rings)
 from alreadytold.stories import stories_of_post
-from samples import ODD_THINGS, fillings, random_chart, slow_closed, slow_power, slow_reach, slow_table
+from samples import fillings, slow_closed, slow_power, slow_reach, slow_table, small_charts
 
 HALF = (1, 2)
 A, B, C = ("a", 4), ("b", 4), ("c", 4)
@@ -27,15 +26,6 @@ def graph_chart(leads):
     posts = fillings([4] * len(wires))
     entries = [[(posts[goal], (1, len(goals))) for goal in goals] for goals in leads]
     return Chart(wires, [Box(0, wires, wires, entries)], [])
-
-
-def small_charts(seed, many):
-    rng = random.Random(seed)
-    while many:
-        chart = random_chart(rng, chance=0.5 if many % 3 else 0.0)
-        if 2 <= len(posts_of(chart)) <= 12:
-            many -= 1
-            yield rng, chart, rng.choice(all_ins(chart))
 
 
 class Results(unittest.TestCase):

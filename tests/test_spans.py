@@ -1,14 +1,13 @@
-import random
 import unittest
 from fractions import Fraction
 
 from alreadytold.boxes import Box
-from alreadytold.charts import Chart, all_ins, posts_of
+from alreadytold.charts import Chart, posts_of
 from alreadytold.errors import BadIns, BadOuts, BadShare, BadShares
 from alreadytold.rings import rings_of
 from alreadytold.spans import Span, outs_of, span_of_outs, staying_fault, staying_with
 from alreadytold.staying import own_shares, shares_stay
-from samples import ODD_THINGS, fillings, fraction, random_chart, random_shares, ratio, slow_worked
+from samples import ODD_THINGS, fillings, fraction, random_shares, ratio, slow_worked, small_charts
 
 ZERO, ONE, HALF = (0, 1), (1, 1), (1, 2)
 A, B = ("a", 4), ("b", 2)
@@ -19,15 +18,6 @@ def three_rings():
     entries = [[((0, 0), (1, 3)), ((0, 1), (2, 3))], [((1, 0), (3, 4)), ((1, 1), (1, 4))], (3, 0),
                [((3, 0), (1, 3)), ((3, 1), (2, 3))]]
     return Chart([A, B], [Box(0, [A], [A, B], entries)], ["b"])
-
-
-def small_charts(seed, many):
-    rng = random.Random(seed)
-    while many:
-        chart = random_chart(rng, chance=0.5 if many % 3 else 0.0)
-        if 2 <= len(posts_of(chart)) <= 12 and chart.outs:
-            many -= 1
-            yield rng, chart, rng.choice(all_ins(chart))
 
 
 def slow_outs(chart, ins, shares):
@@ -46,7 +36,7 @@ def out_sizes(chart):
 
 class Outs(unittest.TestCase):
     def test_against_the_words(self):
-        for rng, chart, ins in small_charts(81, 50):
+        for rng, chart, ins in small_charts(81, 80):
             shares = random_shares(rng, len(posts_of(chart)))
             expected = slow_outs(chart, ins, shares)
             self.assertEqual(outs_of(chart, list(ins), list(shares)),
@@ -69,7 +59,7 @@ class Outs(unittest.TestCase):
 class Spans(unittest.TestCase):
     def test_against_the_words(self):
         wide = 0
-        for rng, chart, ins in small_charts(82, 60):
+        for rng, chart, ins in small_charts(82, 100):
             rings = rings_of(chart, ins)
             for outs in fillings(out_sizes(chart))[:4]:
                 given = [slow_outs(chart, ins, own_shares(chart, ins, ring)).get(outs, Fraction(0)) for ring in rings]

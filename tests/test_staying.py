@@ -1,13 +1,12 @@
-import random
 import unittest
 from fractions import Fraction
 
 from alreadytold.boxes import Box
-from alreadytold.charts import Chart, all_ins, posts_of
+from alreadytold.charts import Chart, posts_of
 from alreadytold.errors import BadIns, BadLot, BadShares, BadTurns, BadWeights, NoRing, NotStaying
 from alreadytold.rings import rings_every, rings_of
 from alreadytold.staying import (lasting_posts, mixed_shares, mixture_of, own_shares, own_shares_every, shares_stay)
-from samples import ODD_THINGS, after_turn, fraction, random_chart, random_shares, ratio, slow_power, slow_table
+from samples import ODD_THINGS, after_turn, fraction, random_shares, ratio, slow_power, slow_table, small_charts
 
 ZERO, ONE, HALF = (0, 1), (1, 1), (1, 2)
 X, A, B = ("x", 2), ("a", 4), ("b", 2)
@@ -16,15 +15,6 @@ X, A, B = ("x", 2), ("a", 4), ("b", 2)
 def two_rings():
     """Posts 1 and 2 are a ring of two beats, post 3 is a ring, post 0 leads to both."""
     return Chart([A], [Box(0, [A], [A], [[((1,), (1, 3)), ((3,), (2, 3))], (2,), (1,), (3,)])], ["a"])
-
-
-def small_charts(seed, many):
-    rng = random.Random(seed)
-    while many:
-        chart = random_chart(rng, chance=0.5 if many % 3 else 0.0)
-        if 2 <= len(posts_of(chart)) <= 12:
-            many -= 1
-            yield rng, chart, rng.choice(all_ins(chart))
 
 
 class Own(unittest.TestCase):

@@ -1,4 +1,3 @@
-import random
 import unittest
 from fractions import Fraction
 
@@ -6,7 +5,7 @@ from alreadytold.boxes import Box
 from alreadytold.charts import Chart, all_ins, posts_of
 from alreadytold.errors import BadIns, BadPost, BadShares, BadTurns
 from alreadytold.turning import bounds_after, check_shares, mean_shares_after, shares_after, turning_table
-from samples import (ODD_THINGS, after_turn, fraction, random_chart, random_shares, ratio, slow_power, slow_table)
+from samples import ODD_THINGS, after_turn, fraction, random_shares, ratio, slow_power, slow_table, small_charts
 
 ZERO, ONE, HALF = (0, 1), (1, 1), (1, 2)
 X, A = ("x", 2), ("a", 2)
@@ -16,18 +15,9 @@ def drawer():
     return Chart([X, A], [Box(0, [X, A], [A], [(0,), (1,), [((0,), HALF), ((1,), HALF)], (0,)])], [])
 
 
-def small_charts(seed, many):
-    rng = random.Random(seed)
-    while many:
-        chart = random_chart(rng, chance=0.5 if many % 3 else 0.0)
-        if 2 <= len(posts_of(chart)) <= 12:
-            many -= 1
-            yield rng, chart
-
-
 class Table(unittest.TestCase):
     def test_against_the_words(self):
-        for _, chart in small_charts(51, 60):
+        for _, chart, _ in small_charts(51, 60):
             for ins in all_ins(chart)[:2]:
                 table = turning_table(chart, list(ins))
                 self.assertEqual(table, tuple(tuple(ratio(share) for share in row) for row in slow_table(chart, ins)))
@@ -76,7 +66,7 @@ class Shares(unittest.TestCase):
         self.assertEqual(check_shares(Chart([A], [Box(0, [], [A], [(0,)])], []), [ONE]), (ONE,))
 
     def test_after_and_mean_and_bounds(self):
-        for rng, chart in small_charts(52, 25):
+        for rng, chart, _ in small_charts(52, 25):
             ins = rng.choice(all_ins(chart))
             table = slow_table(chart, ins)
             shares = random_shares(rng, len(table))
@@ -95,7 +85,7 @@ class Shares(unittest.TestCase):
                 now = after_turn(table, now)
 
     def test_bounds(self):
-        for rng, chart in small_charts(53, 20):
+        for rng, chart, _ in small_charts(53, 20):
             ins = rng.choice(all_ins(chart))
             table = slow_table(chart, ins)
             place = rng.randrange(len(table))
