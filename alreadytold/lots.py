@@ -12,7 +12,7 @@ def moves_of(table):
     return [[number for number, share in enumerate(row) if share[0] > 0] for row in table]
 
 
-def _marks_reached(moves):
+def marks_reached(moves):
     """Return for each number the numbers that it comes to, as the bits of a whole number."""
     marks = []
     for number, leads in enumerate(moves):
@@ -28,7 +28,7 @@ def _marks_reached(moves):
 
 def closed_of(moves):
     """Return all closed lots, each an ascending tuple, by their least numbers."""
-    marks = _marks_reached(moves)
+    marks = marks_reached(moves)
     lots = []
     for number, mark in enumerate(marks):
         lot = tuple([other for other, _ in enumerate(moves) if (mark >> other) & 1])

@@ -4,10 +4,10 @@ from math import gcd
 
 from alreadytold.charts import check_ins, check_post, posts_of
 from alreadytold.errors import BadLot, BadTurns, NoRing
-from alreadytold.lots import beats_of_lot, closed_of, is_left, moves_of, turns_to
+from alreadytold.lots import beats_of_lot, closed_of, is_left, turns_to
 from alreadytold.ratios import is_whole
-from alreadytold.turning import turning_table
 from alreadytold.wires import filling_number, is_filling, is_sequence
+from alreadytold.working import shown_rows
 
 MOST_TURNS = 10 ** 30
 
@@ -66,7 +66,13 @@ def numbers_of_posts(chart, posts):
 
 
 def moves_of_posts(chart, ins):
-    return moves_of(turning_table(chart, ins))
+    """Return for each post the ascending numbers of the posts that it sends with a share above 0."""
+    ins = check_ins(chart, ins)
+    moves = []
+    for post in posts_of(chart):
+        sent_posts = sorted(set([sent for _, sent in shown_rows(chart, ins, post)]))
+        moves.append([filling_number(chart.letter_sizes, sent) for sent in sent_posts])
+    return moves
 
 
 def ring_numbers(chart, moves, ring):

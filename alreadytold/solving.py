@@ -1,9 +1,12 @@
-"""The shares of a closed lot that stay, worked out in whole numbers.
+"""Equations of flows between places, worked out in whole numbers.
 
-They solve equations whose answers may have thousands of figures. Elimination would
-meet such numbers at every step; therefore the equations are inverted once with
-remainders by a modulus only, and the answers are drawn from it figure by figure
-(each figure is below the modulus), until just one ratio can be meant.
+Their answers may have thousands of figures. Elimination would meet such numbers at
+every step; therefore the equations are inverted once with remainders by a modulus
+only, and the answers are drawn from it figure by figure (each figure is below the
+modulus), until just one ratio can be meant.
+
+Flows are told as away[k], which has a whole number for each move from place k to
+another place, and leaving[k], what leaves place k in all: at least the sum of away[k].
 """
 
 SMALL_MODULUS = 2 ** 61 - 1
@@ -62,24 +65,35 @@ def _modulus_for(square, most):
     return modulus, inverse
 
 
+def _joined_figures(figures, modulus):
+    """Return the number with these figures, the least one first."""
+    power = modulus
+    # Numbers of like length are joined, for which multiplying is quickest.
+    while len(figures) > 1:
+        joined = [low + high * power for low, high in zip(figures[::2], figures[1::2])]
+        figures = joined + figures[2 * len(joined):]
+        power = power * power
+    return figures[0]
+
+
 def _drawn_answers(square, right, modulus, inverse, most):
     """Return the answers of the equations up to a power of the modulus above most, and the power."""
     parts = [[(place, number) for place, number in enumerate(row) if number != 0] for row in square]
-    answers = [0 for _ in right]
+    drawn = []
     rest = list(right)
     power = 1
     while power <= most:
         small = [number % modulus for number in rest]
-        figures = [sum([number * part for number, part in zip(row, small)]) % modulus for row in inverse]
-        answers = [answer + figure * power for answer, figure in zip(answers, figures)]
-        taken = [sum([number * figures[place] for place, number in row]) for row in parts]
+        newest = [sum([number * part for number, part in zip(row, small)]) % modulus for row in inverse]
+        drawn.append(newest)
+        taken = [sum([number * newest[place] for place, number in row]) for row in parts]
         rest = [(number - less) // modulus for number, less in zip(rest, taken)]
         power = power * modulus
-    return answers, power
+    return [_joined_figures([figures[place] for figures in drawn], modulus) for place in range(len(right))], power
 
 
 def _bottom_of(answer, power, most):
-    """Return the bottom of the only ratio that the answer means: top and bottom from 1 to most."""
+    """Return the bottom of the only ratio that the answer means: its top is at most most, of any sign."""
     one, other = power, answer
     low, high = 0, 1
     while other > most:
@@ -89,36 +103,73 @@ def _bottom_of(answer, power, most):
     return high
 
 
+def _signed(number, power):
+    """Return what is nearest to 0 of the numbers that are the same up to the power."""
+    return number if 2 * number < power else number - power
+
+
 def _whole_answers(answers, power, most):
-    """Return whole numbers in the proportions of 1 and the ratios that the answers mean."""
-    numbers = [1]
+    """Return the tops of the ratios that the answers mean, and their common bottom."""
+    tops = []
+    bottom = 1
     for answer in answers:
-        number = answer * numbers[0] % power
-        if number > most:
-            bottom = _bottom_of(number, power, most)
-            numbers = [bottom * known for known in numbers]
-            number = number * bottom % power
-        numbers.append(number)
-    return numbers
+        top = _signed(answer * bottom % power, power)
+        if abs(top) > most:
+            factor = _bottom_of(top % power, power, most)
+            tops = [factor * known for known in tops]
+            bottom = factor * bottom
+            top = _signed(top * factor % power, power)
+        tops.append(top)
+    return tops, bottom
 
 
-def _balanced(away):
-    """Return whole numbers in the proportions in which what leaves each place is what comes.
+def leaking_answers(away, leaving, rights):
+    """Return (tops, bottom) of the answers for each row of whole right sides.
 
-    away[k] has a whole number for each move from place k to another place.
+    The answers x tell for each place that what leaves it, less what comes from the other places,
+    is its right side. From each place something must leak sooner or later, so there is just one answer.
     """
     many = len(away)
-    leaving = [sum(row) for row in away]
+    square = [[leaving[place] if place == other else -away[other][place] for other in range(many)]
+              for place in range(many)]
+    # By trees of moves, no determinant of a part of the square is above the product of its leaving numbers.
     most = 1
     for number in leaving:
         most = most * number
-    # Place 0 counts 1. At each other place, what leaves it less what comes from the others is what comes from 0.
-    square = [[leaving[place] if place == other else -away[other][place] for other in range(1, many)]
-              for place in range(1, many)]
-    right = [away[0][place] for place in range(1, many)]
     modulus, inverse = _modulus_for(square, most)
-    answers, power = _drawn_answers(square, right, modulus, inverse, 2 * most * most)
-    return _whole_answers(answers, power, most)
+    rows = []
+    for right in rights:
+        greatest = most * max(1, sum([abs(number) for number in right]))
+        answers, power = _drawn_answers(square, right, modulus, inverse, 2 * greatest * most)
+        rows.append(_whole_answers(answers, power, greatest))
+    return rows
+
+
+def balanced_numbers(away):
+    """Return whole numbers in the proportions in which what leaves each place is what comes."""
+    leaving = [sum(row) for row in away]
+    # Place 0 counts 1. At each other place, what leaves it less what comes from the others is what comes from 0.
+    rest = [row[1:] for row in away[1:]]
+    tops, bottom = leaking_answers(rest, leaving[1:], [away[0][1:]])[0]
+    return [bottom] + tops
+
+
+def flows_among(rows, places):
+    """Return away and leaving for some places, told by their rows of whole_rows in the same order."""
+    at = {number: place for place, number in enumerate(places)}
+    away = []
+    leaving = []
+    for (bottom, parts), number in zip(rows, places):
+        row = [0 for _ in places]
+        leaves = bottom
+        for goal, part in parts:
+            if goal == number:
+                leaves = bottom - part
+            elif goal in at:
+                row[at[goal]] = part
+        away.append(row)
+        leaving.append(leaves)
+    return away, leaving
 
 
 def staying_numbers(rows, lot):
@@ -128,12 +179,5 @@ def staying_numbers(rows, lot):
     """
     if [parts for _, parts in rows if len(parts) > 1] == []:
         return [1 for _ in lot]
-    places = {number: place for place, number in enumerate(lot)}
-    away = []
-    for place, (_, parts) in enumerate(rows):
-        row = [0 for _ in lot]
-        for number, part in parts:
-            if places[number] != place:
-                row[places[number]] = part
-        away.append(row)
-    return [bottom * number for (bottom, _), number in zip(rows, _balanced(away))]
+    away, _ = flows_among(rows, lot)
+    return [bottom * number for (bottom, _), number in zip(rows, balanced_numbers(away))]

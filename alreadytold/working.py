@@ -31,17 +31,32 @@ def _with_made(chart, worths, sent, makes, row):
     return worths, sent
 
 
-def worked(chart, ins, post):
-    """Return all that can come as rows (filling, sent, share), ascending."""
-    ins = check_ins(chart, ins)
-    post = check_post(chart, post)
-    parts = [(begun_filling(chart, ins, post), post, ONE)]
+def _all_parts(chart, ins, post, first):
+    """Return a list (worths, sent, share) of all that can come; shares are left out if first is None."""
+    parts = [(begun_filling(chart, ins, post), post, first)]
     for number, takes, makes in chart.steps:
         box = chart.boxes[number]
         further = []
         for worths, sent, share in parts:
             for row, part in box.made_by([worths[place] for place in takes]):
-                whole = share if part == ONE else times(share, part)
+                whole = share if share is None or part == ONE else times(share, part)
                 further.append(_with_made(chart, worths, sent, makes, row) + (whole,))
         parts = further
+    return parts
+
+
+def worked(chart, ins, post):
+    """Return all that can come as rows (filling, sent, share), ascending."""
+    ins = check_ins(chart, ins)
+    post = check_post(chart, post)
+    parts = _all_parts(chart, ins, post, ONE)
     return tuple(sorted([(tuple(worths), tuple(sent), share) for worths, sent, share in parts]))
+
+
+def shown_rows(chart, ins, post):
+    """Return the rows (filling, sent) of worked for right ins and a right post, ascending.
+
+    Without the products of long shares they come much sooner.
+    """
+    parts = _all_parts(chart, ins, post, None)
+    return sorted([(tuple(worths), tuple(sent)) for worths, sent, _ in parts])

@@ -167,3 +167,94 @@ def slow_power(table, turns):
     for _ in range(turns):
         power = [after_turn(table, row) for row in power]
     return power
+
+
+def slow_solve(square, rights):
+    """The columns that a square of fractions turns into the right columns, by elimination."""
+    many = len(square)
+    rows = [list(map(Fraction, square[i])) + [Fraction(right[i]) for right in rights] for i in range(many)]
+    for place in range(many):
+        pivot = next(i for i in range(place, many) if rows[i][place] != 0)
+        rows[place], rows[pivot] = rows[pivot], rows[place]
+        rows[place] = [number / rows[place][place] for number in rows[place]]
+        for other in range(many):
+            if other != place and rows[other][place] != 0:
+                factor = rows[other][place]
+                rows[other] = [number - factor * part for number, part in zip(rows[other], rows[place])]
+    return [[rows[i][many + k] for i in range(many)] for k in range(len(rights))]
+
+
+def slow_slipped(table, slip, begun):
+    """[5.2]: p = e u + (1 - e) p M."""
+    many = len(table)
+    square = [[Fraction(i == j) - (1 - slip) * table[j][i] for j in range(many)] for i in range(many)]
+    return slow_solve(square, [[slip * share for share in begun]])[0]
+
+
+def slow_ends(table):
+    """[5.4]: for each number the shares with which it ends in each closed lot."""
+    many = len(table)
+    lots = slow_closed(table)
+    inside = [j for lot in lots for j in lot]
+    square = [[Fraction(i == j) - (0 if i in inside else table[i][j]) for j in range(many)] for i in range(many)]
+    columns = slow_solve(square, [[Fraction(i in lot) for i in range(many)] for lot in lots])
+    return [[column[i] for column in columns] for i in range(many)]
+
+
+def slow_own(table, lot):
+    """[4.2]: the only shares in a closed lot that stay."""
+    places = list(lot)
+    square = [[Fraction(i == j) - table[j][i] for j in places] for i in places[:-1]] + [[Fraction(1)] * len(places)]
+    found = slow_solve(square, [[Fraction(0)] * (len(places) - 1) + [Fraction(1)]])[0]
+    return [found[places.index(i)] if i in places else Fraction(0) for i in range(len(table))]
+
+
+def slow_changes(posts, post):
+    """[5.8]: one letter has another worth."""
+    return [other for other in posts if sum(a != b for a, b in zip(post, other)) == 1]
+
+
+def wired(chart):
+    return dict(chart.wires)
+
+
+def named(chart, names):
+    return tuple((name, wired(chart)[name]) for name in names)
+
+
+def identity_box(wire, day=0):
+    """A box that makes what it takes."""
+    return Box(day, [wire], [wire], [(worth,) for worth in range(wire[1])])
+
+
+def ringed_charts(seed, many):
+    """Charts of one box, each with some of its ins and 2 to 12 posts, mostly with several rings."""
+    rng = random.Random(seed)
+    for number in range(many):
+        letters = [("a", rng.choice([2, 3, 4])), ("b", rng.choice([2, 3]))][:rng.choice([1, 2, 2])]
+        takes = [("x", 2)] + letters if number % 4 else letters
+        entries = []
+        for filling in fillings([size for _, size in takes]):
+            post = filling[-len(letters):]
+            entry = random_entry(rng, [size for _, size in letters], 0.5 if number % 3 else 0.0)
+            entries.append(post if rng.random() < 0.3 else entry)
+        chart = Chart(takes, [Box(0, takes, letters, entries)], [])
+        yield rng, chart, rng.choice(all_ins(chart))
+
+
+def example():
+    """[5.13]: post 0 is a ring, 1 leads to 2, which is a ring."""
+    wire = ("a", 3)
+    return Chart([wire], [Box(0, [wire], [wire], [(0,), (2,), (2,)])], ["a"])
+
+
+def most_of_three():
+    """[5.13]: three letters whose boxes all make what most of the three are."""
+    wires = [("a", 2), ("b", 2), ("c", 2)]
+    boxes = [Box(0, wires, [wire], [(int(sum(row) > 1),) for row in fillings([2] * 3)]) for wire in wires]
+    return Chart(wires, boxes, [])
+
+
+def no_letters():
+    wires = [("x", 2), ("a", 3)]
+    return Chart(wires, [Box(0, wires[:1], wires[1:], [(0,), (2,)])], ["a"])

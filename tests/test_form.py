@@ -12,7 +12,8 @@ import unittest
 import alreadytold
 
 FOLDER = os.path.dirname(alreadytold.__file__)
-LIBRARY = {"math": {"gcd", "lcm", "isqrt", "comb", "perm", "factorial"}, "heapq": {"heappush", "heappop", "heapify"}}
+LIBRARY = {"math": {"gcd", "lcm", "isqrt", "comb", "perm", "factorial"}, "heapq": {"heappush", "heappop", "heapify"},
+           "itertools": {"combinations", "permutations", "product"}}
 BUILTINS = {"len", "range", "enumerate", "zip", "min", "max", "sum", "abs", "sorted", "reversed", "int", "str", "bool",
             "list", "tuple", "dict", "set", "isinstance", "ord", "repr", "any", "all", "divmod", "ValueError"}
 METHODS = set("""append clear copy count endswith extend find get index insert isalnum isalpha isdigit islower isspace
@@ -92,6 +93,8 @@ def is_iterated_at_once(node):
     parent = node.parent
     if isinstance(parent, (ast.For, ast.comprehension)):
         return parent.iter is node
+    if isinstance(parent, ast.YieldFrom):
+        return True
     return isinstance(parent, ast.Call) and isinstance(parent.func, ast.Name) and parent.func.id in TAKERS
 
 
