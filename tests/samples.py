@@ -258,3 +258,68 @@ def most_of_three():
 def no_letters():
     wires = [("x", 2), ("a", 3)]
     return Chart(wires, [Box(0, wires[:1], wires[1:], [(0,), (2,)])], ["a"])
+
+
+def agreeing(box, worths):
+    """All fillings of the takes that agree with what is known, with their rows."""
+    names = [name for name, _ in box.takes]
+    return [(filling, box.made_by(filling)[0][0]) for filling in fillings(box.take_sizes)
+            if all(worths.get(name, worth) == worth for name, worth in zip(names, filling))]
+
+
+def slow_known(chart, ins, told=()):
+    """[6.2] word by word: the rounds, and the known worths by names."""
+    worths = {name: worth for name, worth in zip(chart.ins, ins) if worth is not None}
+    worths.update(dict(told))
+    rounds = [[name for name, _ in chart.wires if name in worths]]
+    while True:
+        new = {}
+        for box in chart.boxes:
+            rows = agreeing(box, worths)
+            for at, (name, _) in enumerate(box.makes):
+                if name not in worths and len({row[at] for _, row in rows}) == 1:
+                    new[name] = rows[0][1][at]
+        if not new:
+            return tuple(map(tuple, rounds)), worths
+        worths.update(new)
+        rounds.append([name for name, _ in chart.wires if name in new])
+
+
+def some_ins(rng, chart):
+    return tuple(rng.choice([None, worth, worth]) for worth in rng.choice(all_ins(chart)))
+
+
+def some_told(rng, chart, most=1.0):
+    couples = [(name, rng.randrange(size)) for name, size in zip(chart.letters, chart.letter_sizes)
+               if rng.random() < 0.4 * most]
+    rng.shuffle(couples)
+    return couples
+
+
+def plain_box(rng, wires, makes, days):
+    """A box whose entries are mostly the least, the greatest or the product of what it takes."""
+    takes = rng.sample(wires, rng.randint(1, 3))
+    rule = rng.choice([min, max, lambda row: row[0] * row[-1], lambda row: 0])
+    rows = [tuple(min(rule(row), size - 1) for _, size in makes) for row in fillings([size for _, size in takes])]
+    if rng.random() < 0.3:
+        rows[rng.randrange(len(rows))] = tuple(rng.randrange(size) for _, size in makes)
+    return Box(rng.randint(0, days), takes, makes, rows)
+
+
+def plain_chart(rng):
+    ins = [(name, rng.choice([2, 2, 3])) for name in rng.sample("pqrs", rng.randint(2, 3))]
+    made = [(name, rng.choice([2, 2, 3])) for name in "abcd"[:rng.randint(2, 4)]]
+    wires = ins + made
+    rng.shuffle(wires)
+    boxes = [plain_box(rng, wires, [wire], 2) for wire in made]
+    return Chart(wires, boxes, [name for name, _ in rng.sample(wires, 2)])
+
+
+def sure_charts(seed, many):
+    """Charts of sure boxes in which often something is known; half of them are wild."""
+    rng = random.Random(seed)
+    while many:
+        chart = random_chart(rng, wires=6) if many % 2 else plain_chart(rng)
+        if chart.letters and len(posts_of(chart)) <= 24:
+            many -= 1
+            yield rng, chart
