@@ -323,3 +323,27 @@ def sure_charts(seed, many):
         if chart.letters and len(posts_of(chart)) <= 24:
             many -= 1
             yield rng, chart
+
+
+def one_box_charts(seed, many, chance=0.0):
+    """Charts of one box that takes all ins, 2 to 6 posts, mostly with outs that are no letters; and some of its ins."""
+    rng = random.Random(seed)
+    for _ in range(many):
+        letters = rng.choice([[("a", 2)], [("a", 3)], [("a", 4)], [("a", 2), ("b", 2)], [("a", 3), ("b", 2)]])
+        others = rng.choice([[], [("o", 2)], [("o", 3)], [("o", 2)]])
+        ins = rng.choice([[], [("x", 2)]])
+        takes, makes = ins + letters, letters + others
+        rng.shuffle(takes)
+        rng.shuffle(makes)
+        sizes = [size for _, size in makes]
+        stay = rng.random() * 0.7
+        entries = []
+        for filling in fillings([size for _, size in takes]):
+            worths = dict(zip([name for name, _ in takes], filling))
+            entry = random_entry(rng, sizes, chance)
+            kept = tuple(worths.get(name, rng.randrange(size)) for name, size in makes)
+            entries.append(kept if rng.random() < stay else entry)
+        wires = ins + letters + others
+        outs = [name for name, _ in rng.sample(wires, rng.randint(0, min(2, len(wires))))]
+        chart = Chart(wires, [Box(rng.randint(0, 2), takes, makes, entries)], outs)
+        yield rng, chart, rng.choice(all_ins(chart))
