@@ -122,9 +122,13 @@ def customs_table(chart, ins, name):
     shown = _shown_shares(chart, ins, place)
     # Shares that stay are mixtures, so the least and the greatest are those of own shares.
     own = [_mean_shares(shown, own_shares(chart, ins, ring)) for ring in rings_of(chart, ins)]
+    by_seldom = own[0]
+    by_single = own[0]
+    if len(own) > 1:
+        by_seldom = _mean_shares(shown, seldom(chart, ins))
+        by_single = _mean_shares(shown, single(chart, ins))
     known = known_worths(chart, ins)[place] if chart.is_sure else None
-    return Customs(tells(chart, ins, name), _furthest(own, -1), _furthest(own, 1),
-                   _mean_shares(shown, seldom(chart, ins)), _mean_shares(shown, single(chart, ins)), known)
+    return Customs(tells(chart, ins, name), _furthest(own, -1), _furthest(own, 1), by_seldom, by_single, known)
 
 
 def story_not_sure(chart, name):

@@ -5,7 +5,8 @@ from math import lcm
 from alreadytold.charts import check_ins
 from alreadytold.errors import BadSlip, BadTurns
 from alreadytold.ratios import is_ratio, is_whole, make_ratio
-from alreadytold.scaling import base_of, cancelled, lightened, turned, whole_parts, whole_rows
+from alreadytold.scaling import base_of, cancelled, whole_parts, whole_rows
+from alreadytold.sizing import Bottoms
 from alreadytold.solving import flows_among, leaking_answers
 from alreadytold.turning import check_shares, turning_table
 from alreadytold.wires import count_fillings
@@ -67,10 +68,11 @@ def turns_sum(chart, ins, slip, turns, beginnings=None):
     base = lcm(base_of(rows, whole), bottom)
     tops = begun
     scale = 1
+    bottoms = Bottoms(rows)
     # The sum is u + r (u + r (u + ..) M) M with r = 1 - slip: one turn of a row for each power.
     for _ in range(turns):
-        after, factor = turned(tops, rows)
+        after, factor = bottoms.one_turn(tops)
         scale = scale * factor * bottom
         tops = [number * scale + (bottom - top) * part for number, part in zip(begun, after)]
-        tops, scale = lightened(tops, scale, factor * bottom)
-    return tuple([cancelled(top * number, whole * scale * bottom, base) for number in tops])
+    return tuple([cancelled(top * (number // spare), whole * bottom * (scale // spare), base)
+                  for number, spare in zip(tops, bottoms.spare_factors())])

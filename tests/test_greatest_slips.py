@@ -74,7 +74,7 @@ class Soon(unittest.TestCase):
         sure = post_chart(leads)
         table = [[int(j in goals) for j in range(64)] for goals in leads]
         long, long_table = parted_chart(rng, [6, 4, 54])
-        for chart, table, turns in [(sure, table, 60), (long, long_table, 20)]:
+        for chart, table, turns in [(sure, table, 60), (long, long_table, 60)]:
             shares = turns_sum(chart, (), SLIP, turns, begun)
             e, row = small(SLIP), list(map(small, begun))
             total = [0] * 64

@@ -1,0 +1,93 @@
+"""What the modules of the interface share: sizes of bottoms, equations of flows, leading terms, rounded shares."""
+
+import random
+import unittest
+from fractions import Fraction
+from math import gcd
+
+from alreadytold.leading import lasting_terms
+from alreadytold.nearing import is_surely_near
+from alreadytold.scaling import whole_rows
+from alreadytold.sizing import coprime_base, powers_in
+from alreadytold.solving import leaking_answers
+from samples import fraction, ratio, ringed_charts, slow_slipped, slow_solve, slow_table
+
+
+class Sizes(unittest.TestCase):
+    def test_coprime_base(self):
+        rng = random.Random(501)
+        for _ in range(300):
+            numbers = [rng.choice([1, 2, 4, 6, 12, 35, 1000, 10 ** 40, rng.randint(1, 5000)]) for _ in range(rng.randint(0, 6))]
+            base = coprime_base(numbers)
+            self.assertTrue(all(part > 1 for part in base))
+            self.assertTrue(all(gcd(one, other) == 1 for one in base for other in base if one != other))
+            for number in numbers:
+                whole = 1
+                for part, power in zip(base, powers_in(number, base)):
+                    whole *= part ** power
+                self.assertEqual(whole, number)
+
+
+class Flows(unittest.TestCase):
+    def test_answers_of_any_sign(self):
+        rng = random.Random(502)
+        for _ in range(150):
+            many = rng.randint(0, 5)
+            away = [[0 if i == j else rng.choice([0, 1, 5, 10 ** 30]) for j in range(many)] for i in range(many)]
+            leaving = [sum(row) + rng.choice([1, 3, 10 ** 20]) for row in away]
+            rights = [[rng.choice([0, 1, -1, 7, -10 ** 40]) for _ in range(many)] for _ in range(rng.randint(1, 3))]
+            square = [[leaving[i] if i == j else -away[j][i] for j in range(many)] for i in range(many)]
+            expected = slow_solve(square, rights)
+            found = [[Fraction(top, bottom) for top in tops] for tops, bottom in leaking_answers(away, leaving, rights)]
+            self.assertEqual(found, expected)
+
+
+class Leading(unittest.TestCase):
+    def test_against_a_small_number(self):
+        rng = random.Random(503)
+        e = Fraction(1, 10 ** 40)
+        for _ in range(60):
+            many = rng.randint(2, 5)
+            rates = []
+            for i in range(many):
+                row = [(j, rng.randint(0, 4), rng.randint(1, 9)) for j in range(many) if j != i and rng.random() < 0.6]
+                # Each number leads to each, if only by these moves.
+                rates.append(row + [((i + 1) % many, rng.randint(0, 4), rng.randint(1, 9))])
+            table = [[Fraction(0)] * many for _ in range(many)]
+            for i, row in enumerate(rates):
+                for j, order, weight in row:
+                    table[i][j] += weight * e ** order
+            square = [[(-sum(table[i]) if i == j else table[j][i]) for j in range(many)] for i in range(many)]
+            shares = slow_solve(square[:-1] + [[Fraction(1)] * many], [[Fraction(0)] * (many - 1) + [Fraction(1)]])[0]
+            orders, numbers, _ = lasting_terms(rates)
+            self.assertEqual(min(orders), 0)
+            whole = sum(number for order, number in zip(orders, numbers) if order == 0)
+            for share, order, number in zip(shares, orders, numbers):
+                self.assertLess(abs(share / e ** order / Fraction(number, whole) - 1), Fraction(1, 10 ** 30))
+
+
+class Rounded(unittest.TestCase):
+    def test_surely_near_or_not(self):
+        rng = random.Random(504)
+        seen = set()
+        for _, chart, ins in ringed_charts(504, 60):
+            table = slow_table(chart, ins)
+            many = len(table)
+            rows = whole_rows([[ratio(share) for share in row] for row in table])
+            begun = [Fraction(1, many)] * many
+            halvings = rng.choice([1, 3, 20, 200])
+            shares = slow_slipped(table, Fraction(1, 2 ** halvings), begun)
+            goal = [ratio(share + Fraction(rng.randint(-9, 9), 10 ** 3)) for share in shares]
+            apart = max(abs(share - fraction(other)) for share, other in zip(shares, goal))
+            for factor in [Fraction(1, 2), 1 - Fraction(1, 10 ** 20), 1, 1 + Fraction(1, 10 ** 20), 2]:
+                within = apart * factor
+                if within > 0:
+                    found = is_surely_near(rows, [ratio(share) for share in begun], goal, halvings, ratio(within))
+                    # Equality is never sure; all else here is far enough from it.
+                    self.assertEqual(found, None if factor == 1 else factor > 1)
+                    seen.add(found)
+        self.assertEqual(seen, {True, False, None})
+
+
+if __name__ == "__main__":
+    unittest.main()
