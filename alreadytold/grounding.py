@@ -4,6 +4,7 @@ from alreadytold.charts import all_ins, check_ins, check_sure
 from alreadytold.errors import BadTold
 from alreadytold.ratios import is_whole
 from alreadytold.wires import filling_by_number, is_sequence
+from alreadytold.working import begun_filling
 
 
 def check_told(chart, told):
@@ -43,9 +44,7 @@ def worths_made(box, numbers, at):
 
 def begun_worths(chart, ins, told):
     """Return a list of the worth of each wire that is told, None for all others."""
-    worths = [None for _ in chart.wires]
-    for place, worth in zip(chart.in_places, ins):
-        worths[place] = worth
+    worths = begun_filling(chart, ins, ())
     for name, worth in told:
         worths[chart.letter_places[chart.letters.index(name)]] = worth
     return worths
