@@ -38,15 +38,14 @@ def _copy_making(chart, lefts, name, worth):
     return None
 
 
-def _takes_of(chart, copy):
-    """Return (name, worth) for each take of a copy of a box."""
-    number, filling, _ = copy
+def _takes_of(chart, number, filling):
+    """Return (name, worth) for each take of a box at a filling."""
     return [(take, worth) for (take, _), worth in zip(chart.boxes[number].takes, filling)]
 
 
-def _sources_of(chart, copy, index_of):
-    """Return for each take of a copy the index of the copy that makes it, None for an in."""
-    return tuple([index_of.get(couple) for couple in _takes_of(chart, copy)])
+def _sources_of(chart, number, filling, index_of):
+    """Return for each take of a box at a filling the index of the copy that makes it, None for an in."""
+    return tuple([index_of.get(couple) for couple in _takes_of(chart, number, filling)])
 
 
 def crowd_for(chart, ins, name, worth):
@@ -63,11 +62,13 @@ def crowd_for(chart, ins, name, worth):
     while len(copies) < len(couples):
         made, made_worth = couples[len(copies)]
         copies.append(_copy_making(chart, lefts, made, made_worth))
-        for couple in _takes_of(chart, copies[-1]):
+        number, filling, _ = copies[-1]
+        for couple in _takes_of(chart, number, filling):
             if couple[0] not in chart.ins and couple not in index_of:
                 index_of[couple] = len(couples)
                 couples.append(couple)
-    return Crowd(tuple([copy + (_sources_of(chart, copy, index_of),) for copy in copies]))
+    return Crowd(tuple([(number, filling, row, _sources_of(chart, number, filling, index_of))
+                        for number, filling, row in copies]))
 
 
 def _is_row(chart, row, many):
@@ -97,8 +98,8 @@ def _has_wrong_entry(chart, rows):
 
 def _has_wrong_source(chart, ins, rows):
     told = {name: worth for name, worth in zip(chart.ins, ins)}
-    for row in rows:
-        for (name, worth), source in zip(_takes_of(chart, (row[0], row[1], row[2])), row[3]):
+    for number, filling, _, sources in rows:
+        for (name, worth), source in zip(_takes_of(chart, number, filling), sources):
             if name in told:
                 if source is not None or told[name] not in (None, worth):
                     return True

@@ -88,6 +88,9 @@ class OneBox(unittest.TestCase):
         full = [(told, (1,), 1) for told in fillings([2] * 7)]
         self.refuse("takes", two[:7], [], [A], full)
         self.refuse("takes", two[:6], [], [A], [])
+        for sizes in [(4, 4, 4, 4), (2, 3, 3, 4)]:
+            full = [(told, (1,), 1) for told in fillings(sizes)]
+            self.refuse("takes", list(zip("pqrs", sizes)), [], [A], full)
         self.refuse("takes", [("p", 4), ("q", 4), ("r", 3)], [], [], [((0, 0, 0), (), 5)])
         self.refuse("takes", two[:4], [], two[4:8] + [A, C], [((0,) * 4, (0,) * 6, 17)])
         self.refuse("takes", [(name, 4) for name in "abcdefghijklmnop"], [], [], [])

@@ -140,6 +140,8 @@ class Fault(unittest.TestCase):
         self.assertEqual(self.fault([("x", 0, None)]), "told")
         self.assertEqual(self.fault([("x", 1, ())]), "told")
         self.assertEqual(self.fault([("x", 1, None)], ins=(None, 1)), "told")
+        self.assertEqual(self.fault([("x", 1, ())], ins=(None, 1)), "told")
+        self.assertEqual(self.fault([("x", 0, [])], name="x", ins=(None, 1)), "told")
         self.assertEqual(self.fault([("c", 1, None)]), "told")
         self.assertEqual(self.fault([("a", 1, None)], told=[("a", 0)]), "told")
         self.assertEqual(self.fault([("a", 0, ("c",))], told=[("a", 0)]), "told")
