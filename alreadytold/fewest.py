@@ -117,7 +117,6 @@ def new_ring_posts(chart, ins, bad, wish):
 
 def fewest_number(chart, ins, wish):
     """Return the least number of changes after which the wish is granted, None if there is no way."""
-    check_one_box(chart)
     found = fewest_changes(chart, ins, wish)
     return found.number if isinstance(found, Fewest) else None
 

@@ -117,7 +117,7 @@ class Fault(unittest.TestCase):
         for rows in ODD_THINGS:
             if not isinstance(rows, (list, tuple)):
                 self.assertEqual(self.fault(rows), "row")
-        for row in ODD_THINGS + [good[:3], good + (0,), (1,) + good[1:], (True,) + good[1:], (0, (1,), (1,), (None, 0)),
+        for row in ODD_THINGS + [good[:3], good + (0,), (1,) + good[1:], (True,) + good[1:], (-1,) + good[1:], (0, (1,), (1,), (None, 0)),
                                  (0, (1, 2), (1,), (None, 0)), (0, (1, 1), (2,), (None, 0)), (0, (1, 1), (), (None, 0)),
                                  (0, (1, 1), (1,), (None,)), (0, (1, 1), (1,), (None, 2)), (0, (1, 1), (1,), (None, -1)),
                                  (0, (1, 1), (1,), (None, False)), (0, (1, 1), (1,), 0), (0, (1, 1), 1, (None, 0))]:

@@ -112,6 +112,16 @@ class Numbers(unittest.TestCase):
         self.assertEqual(needed_posts(chart, (), wish), ((0,), (2,)))
         self.assertEqual(needed_posts(chart, (), ("lot", [(2,), (1,)])), ((0,),))
 
+    def test_one_change_makes_a_story(self):
+        wire = ("a", 4)
+        chart = Chart([wire], [Box(0, [wire], [wire], [(1,), (0,), (3,), (2,)])], [])
+        self.assertEqual(fewest_number(chart, (), ("story",)), 1)
+        fewest = fewest_changes(chart, (), ("story",))
+        self.assertIsNone(changes_fault(chart, (), ("story",), fewest.changes))
+        self.assertEqual(needed_posts(chart, (), ("story",)), ())
+        self.assertEqual(fewest_number(chart, (), ("still",)), 2)
+        self.assertEqual(fewest_number(chart, (), ("one ring",)), 1)
+
     def test_only_fitting_post_in_a_ring(self):
         wire = ("a", 4)
         chart = Chart([wire], [Box(0, [wire], [wire], [(1,), (0,), (3,), (2,)])], [])

@@ -127,7 +127,7 @@ class Fault(unittest.TestCase):
         for rows in ODD_THINGS:
             if not isinstance(rows, (list, tuple)) or len(rows) == 0:
                 self.assertEqual(self.fault(rows), "row")
-        for row in ODD_THINGS + [("x", 1), ("x", 1, None, None), ("x", 2, None), ("x", True, None), ("p", 1, None),
+        for row in ODD_THINGS + [("x", 1), ("x", 1, None, None), ("x", 2, None), ("x", True, None), ("p", 1, None), ("x", -1, None),
                                  (None, 1, None), ([], 1, None), ("x", None, None), ("c", 1, "xy"), ("c", 1, ("x", "x")),
                                  ("c", 1, ("x", "c")), ("c", 1, ("x", None)), ("c", 1, 0), ("x", 1, ("y",)),
                                  ("c", 1, ({},)), "xy1", {"x": 1}]:

@@ -5,10 +5,13 @@ from fractions import Fraction
 from alreadytold.boxes import Box
 from alreadytold.charts import Chart, posts_of
 from alreadytold.errors import BadIns, BadNear, BadPost, BadShares
+from alreadytold.nearing import is_surely_near
 from alreadytold.rings import rings_of
+from alreadytold.scaling import whole_rows
 from alreadytold.seldom import ends_in, ends_table, lean, near_seldom, ring_weights, seldom
 from alreadytold.slips import even_shares, slipped
 from alreadytold.staying import mixed_shares, shares_stay
+from alreadytold.turning import turning_table
 from samples import (ODD_THINGS, after_turn, example, fraction, random_shares, ratio, ringed_charts, slow_closed, slow_ends, slow_own,
                      slow_slipped, slow_table, small_charts)
 
@@ -21,6 +24,17 @@ def drifting():
     wire = ("a", 4)
     entries = [(0,), [((0,), (1, 3)), ((2,), (2, 3))], [((1,), (1, 4)), ((2,), HALF), ((3,), (1, 4))], (3,)]
     return Chart([wire], [Box(0, [wire], [wire], entries)], [])
+
+
+def around(number, most):
+    """The nearest fractions with bottoms up to most on both sides of a number: its last two convergents."""
+    found = [(0, 1), (1, 0)]
+    rest = number
+    while found[-1][1] <= most:
+        whole = rest.numerator // rest.denominator
+        found.append((whole * found[-1][0] + found[-2][0], whole * found[-1][1] + found[-2][1]))
+        rest = 1 / (rest - whole)
+    return sorted(Fraction(top, bottom) for top, bottom in found[-3:-1])
 
 
 def slow_seldom(table, begun):
@@ -142,6 +156,20 @@ class Near(unittest.TestCase):
             for within in [apart, apart * (1 - Fraction(1, 10 ** 60)), apart * (1 + Fraction(1, 10 ** 60))]:
                 if within >= Fraction(1, 10 ** 6):
                     self.assertEqual(near_seldom(chart, ins, ratio(within), begun), self.first(table, u, within))
+
+    def test_too_close_for_rounded_shares(self):
+        # Post 1 is left with a share of 100 figures; the nearness is just below or above what lacks at 1/64.
+        top = random.Random(345).randrange(10 ** 98, 10 ** 99)
+        leaves = Fraction(top, 10 ** 99 + 7)
+        shares = [((0,), ratio(leaves)), ((1,), ratio(1 - leaves))]
+        chart = Chart([("a", 2)], [Box(0, [("a", 2)], [("a", 2)], [(0,), shares])], [])
+        rows = whole_rows(turning_table(chart, ()))
+        apart = fraction(slipped(chart, (), (1, 64))[1])
+        below, above = around(apart, 10 ** 98)
+        self.assertTrue(below < apart < above)
+        for within, expected in [(below, 128), (above, 64), (apart, 64)]:
+            self.assertIsNone(is_surely_near(rows, even_shares(chart), seldom(chart, ()), 6, ratio(within)))
+            self.assertEqual(near_seldom(chart, (), ratio(within)), expected)
 
     def test_example(self):
         # 1/3 at the slip 1, where the nearness is just met, and then 1/3 of the slip.
