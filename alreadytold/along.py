@@ -4,7 +4,7 @@ from alreadytold.boxes import Box
 from alreadytold.charts import Chart, place_of
 from alreadytold.errors import BadDays, BadNaming, BadOrder
 from alreadytold.ratios import is_whole
-from alreadytold.wires import filling_number, fillings_of, is_name, is_sequence
+from alreadytold.wires import filling_number, fillings_of, is_name, is_order, is_sequence
 
 MOST_DAYS = 9
 
@@ -41,12 +41,7 @@ def renamed_chart(chart, pairs):
 
 def _check_order(order, many):
     """Refuse what does not tell each number below many just once."""
-    if not is_sequence(order, many, many):
-        raise BadOrder(order)
-    for worth in order:
-        if not is_whole(worth, 0, many - 1):
-            raise BadOrder(order)
-    if len(set(order)) < many:
+    if not is_order(order, many):
         raise BadOrder(order)
 
 

@@ -64,13 +64,27 @@ def _turns_over(leads, lot):
     return turns
 
 
-def turns_to(moves, lot):
-    """Return for each number the least number of moves into a lot, None for no way."""
+def turned_about(moves):
+    """Return the moves told backwards: for each number the ascending ones from which a move leads to it."""
     back = [[] for _ in moves]
     for number, leads in enumerate(moves):
         for lead in leads:
             back[lead].append(number)
-    return _turns_over(back, lot)
+    return back
+
+
+def turns_to(moves, lot):
+    """Return for each number the least number of moves into a lot, None for no way."""
+    return _turns_over(turned_about(moves), lot)
+
+
+def least_walk(moves, turns, here):
+    """Return the least of the shortest walks from here to where turns, those of turns_to, are 0."""
+    walk = [here]
+    while turns[here] > 0:
+        here = min([lead for lead in moves[here] if turns[lead] == turns[here] - 1])
+        walk.append(here)
+    return walk
 
 
 def beats_of_lot(moves, lot):

@@ -4,7 +4,7 @@ from math import gcd
 
 from alreadytold.charts import check_ins, check_post, posts_of
 from alreadytold.errors import BadLot, BadTurns, NoRing
-from alreadytold.lots import beats_of_lot, closed_of, is_left, turns_to
+from alreadytold.lots import beats_of_lot, closed_of, is_left, least_walk, turns_to
 from alreadytold.ratios import is_whole
 from alreadytold.wires import filling_number, is_filling, is_sequence
 from alreadytold.working import shown_rows
@@ -106,11 +106,7 @@ def shortest_walk(chart, ins, post, lot):
     here = filling_number(chart.letter_sizes, post)
     if turns[here] is None:
         return None
-    walk = [here]
-    while turns[here] > 0:
-        here = min([lead for lead in moves[here] if turns[lead] == turns[here] - 1])
-        walk.append(here)
-    return posts_numbered(chart, walk)
+    return posts_numbered(chart, least_walk(moves, turns, here))
 
 
 def ring_fault(chart, ins, lot):

@@ -14,6 +14,13 @@ def is_sequence(thing, least, most=None):
     return most is None or len(thing) <= most
 
 
+def is_order(thing, many):
+    """Tell whether a thing of any kind is a sequence of all whole numbers below many, each once."""
+    if not is_sequence(thing, many, many):
+        return False
+    return sorted([number for number in thing if is_whole(number)]) == list(range(many))
+
+
 def is_name(thing):
     """Tell whether a thing of any kind is a name: 1 to 8 letters a to z."""
     if not isinstance(thing, str) or not 1 <= len(thing) <= LONGEST_NAME:

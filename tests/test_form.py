@@ -299,6 +299,59 @@ class Form(unittest.TestCase):
                             if isinstance(target, ast.Subscript):
                                 self.assertNotIn(ast.dump(target.value), roots, place)
 
+    def runs_of_operators(self):
+        """All functions that operators and properties run, by name: what they call, and so on."""
+        found = {}
+        for _, tree in trees():
+            for node in walk(tree, ast.ClassDef):
+                found[node.name] = [row for row in node.body if isinstance(row, ast.FunctionDef) and row.name == "__init__"]
+            for node in functions_of(tree):
+                if node.name != "__init__":
+                    found.setdefault(node.name, []).append(node)
+        runs = [node for nodes in found.values() for node in nodes
+                if node.name != "__init__" and (node.decorator_list or node.name.startswith("__"))]
+        for run in runs:
+            called = [called_name(node) for node in walk(run, ast.Call)]
+            runs += [node for name in called for node in found.get(name, []) if node not in runs]
+        return runs
+
+    def test_operators_and_properties_change_nothing(self):
+        runs = self.runs_of_operators()
+        self.assertGreater(len(runs), 30)
+        for run in runs:
+            self.assertEqual(walk(run, ast.Yield, ast.YieldFrom), [], run.name)
+            given = {}
+            for node in walk(run, ast.Assign):
+                for target in node.targets:
+                    for name in [name for name in walk(target, ast.Name) if isinstance(name.ctx, ast.Store)]:
+                        own = target is name and isinstance(node.value, (ast.List, ast.ListComp, ast.Dict, ast.DictComp))
+                        given[name.id] = own and given.get(name.id, True)
+            for node in walk(run, ast.Assign, ast.AugAssign):
+                for target in node.targets if isinstance(node, ast.Assign) else [node.target]:
+                    if isinstance(target, ast.Attribute):
+                        self.assertEqual((run.name, target.value.id), ("__init__", "self"))
+                    if isinstance(target, ast.Subscript):
+                        self.assertTrue(given[target.value.id], run.name)
+                if isinstance(node, ast.AugAssign):
+                    self.assertTrue(isinstance(node.op, ast.Add) and isinstance(node.value, ast.Constant), run.name)
+            for node in walk(run, ast.Call):
+                if isinstance(node.func, ast.Attribute) and called_name(node) in CHANGING:
+                    self.assertTrue(given[node.func.value.id], run.name)
+
+    def test_what_operators_ask_of_the_package(self):
+        for place, node in self.each(ast.Call):
+            if called_name(node) in ("sorted", "min", "max", "any", "all", "sum"):
+                for thing in node.args:
+                    self.assertNotIn(called_name(thing), ("zip", "enumerate", "map"), place)
+            self.assertFalse(called_name(node) in DUNDER and called_name(node) != "__init__", place)
+        for place, node in self.each(ast.FunctionDef):
+            if node.name in DUNDER:
+                kept = [row for row in walk(node, ast.Assign) if called_name(row.value) in ONCE]
+                self.assertEqual(kept, [], place)
+                self.assertEqual(node.args.defaults if node.name != "__init__" else [], [], place)
+                many = {"__init__": None, "__invert__": 1}.get(node.name, 2)
+                self.assertIn(many, (None, len(node.args.args)), place)
+
     def test_sets(self):
         for place, node in self.each(ast.Call):
             if called_name(node) == "set":
@@ -399,11 +452,24 @@ class Interface(unittest.TestCase):
         "badrings": "bad_rings fitting_posts",
         "fewest": "changed_chart fewest_number fewest_changes changes_fault needed_posts Fewest NoWay",
         "manyfewest": "all_fewest count_fewest count_everywhere fewest_everywhere granted_chart Everywhere",
+        "boxed": "boxed",
+        "houses": "House",
+        "manydays": "days_table count_days all_days day_story days_fault",
+        "rounds": "Round",
+        "dayrounds": "has_story days_with_story endless_story endless_fault Endless Ends",
+        "suredays": "reached leading couples_on worths_on last_that_matters OnDay Matters",
+        "growing": "never_two growth doubling doubling_fault Growth Doubling",
+        "plaindays": "known_on plain_days",
+        "samehouses": "alike_from alike_hands UnlikeDays",
     }
     METHODS = {"Box": "is_sure made_by with_entry on_day __eq__", "Chart": "is_sure with_box with_day with_outs __eq__",
                "Counts": "number_at __eq__", "Sure": "__eq__", "Two": "__eq__", "Walk": "__eq__", "OneRing": "__eq__",
                "TwoRings": "__eq__", "Meeting": "__eq__", "Span": "__eq__", "Parted": "__eq__", "Crowd": "__eq__",
-               "Differ": "__eq__", "Customs": "__eq__", "Fewest": "__eq__", "NoWay": "__eq__", "Everywhere": "__eq__"}
+               "Differ": "__eq__", "Customs": "__eq__", "Fewest": "__eq__", "NoWay": "__eq__", "Everywhere": "__eq__",
+               "House": "all_couples all_steps entry_of with_row exchanged mirrored __eq__",
+               "Round": "first_from many_below __contains__ __and__ __or__ __invert__ __eq__", "Endless": "__eq__",
+               "Ends": "__eq__", "OnDay": "__eq__", "Matters": "__eq__", "Growth": "__eq__", "Doubling": "__eq__",
+               "UnlikeDays": "__eq__"}
     PARAMETERS = {
         "is_whole": "thing low high", "make_ratio": "top bottom", "is_filling": "sizes thing",
         "filling_number": "sizes filling", "filling_by_number": "sizes number", "place_of": "chart name",
@@ -445,7 +511,15 @@ class Interface(unittest.TestCase):
         "fitting_posts": "chart ins wish", "changed_chart": "chart ins changes", "fewest_number": "chart ins wish",
         "fewest_changes": "chart ins wish", "changes_fault": "chart ins wish changes", "needed_posts": "chart ins wish",
         "all_fewest": "chart ins wish", "count_fewest": "chart ins wish", "count_everywhere": "chart wish",
-        "fewest_everywhere": "chart wish", "granted_chart": "chart wish",
+        "fewest_everywhere": "chart wish", "granted_chart": "chart wish", "boxed": "chart",
+        "days_table": "house days", "count_days": "house days hand blank", "all_days": "house days hand blank",
+        "day_story": "house days hand blank number", "days_fault": "house days hand blank story",
+        "has_story": "house days hand blank", "days_with_story": "house hand blank", "endless_story": "house hand",
+        "endless_fault": "house hand before again", "reached": "house days hand", "leading": "house days blank",
+        "couples_on": "house days hand blank day", "worths_on": "house days hand blank day", "last_that_matters": "house",
+        "never_two": "house hand blank", "growth": "house hand blank", "doubling": "house hand blank",
+        "doubling_fault": "house hand blank before one other after", "known_on": "house days hand blank",
+        "plain_days": "house hand blank", "alike_from": "house hand other other_hand", "alike_hands": "house",
     }
 
     def test_names_stand_in_their_files(self):
@@ -471,6 +545,10 @@ class Interface(unittest.TestCase):
         "Customs": "stories least greatest by_seldom by_single known", "Fewest": "number changes",
         "Everywhere": "number rows", "made_by": "filling", "with_entry": "filling entry", "on_day": "day",
         "with_box": "index box", "with_day": "index day", "with_outs": "outs", "number_at": "told sent",
+        "House": "hand_size letter_size rows", "Round": "head turn lot", "Endless": "before again", "Ends": "days",
+        "OnDay": "hands letters", "Matters": "back ahead", "Growth": "kind power", "Doubling": "before one other after",
+        "UnlikeDays": "days blank number other_number", "entry_of": "hand letter", "with_row": "hand letter row",
+        "exchanged": "hands letters", "mirrored": "", "first_from": "days", "many_below": "days",
     }
 
     def test_parameters_of_methods(self):
