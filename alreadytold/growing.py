@@ -118,7 +118,8 @@ def doubling(house, hand, blank):
 
 def _has_wrong_loop(before, one, other):
     """Tell whether two ways are no unlike loops of one length of the last couple before them."""
-    if len(one) == 0 or len(one) != len(other) or one == other:
+    # Two empty ways are alike, and one is no loop.
+    if len(one) != len(other) or one == other:
         return True
     return one[-1] != before[-1] or other[-1] != before[-1]
 

@@ -255,7 +255,19 @@ class Form(unittest.TestCase):
             self.assertIsNone(node.cause, place)
             self.assertEqual(node.exc.keywords, [], place)
         for place, node in self.each(ast.Try):
-            self.assertEqual((node.finalbody, node.orelse), ([], []), place)
+            self.assertEqual(node.orelse, [], place)
+            for row in node.finalbody:
+                # Names, attributes and None are put into names and attributes, nothing else.
+                self.assertIsInstance(row, ast.Assign, place)
+                for part in ast.walk(row):
+                    self.assertIsInstance(part, (ast.Assign, ast.Tuple, ast.Name, ast.Attribute, ast.Load, ast.Store,
+                                                 ast.Constant), place)
+        for place, node in self.each(ast.Yield, ast.YieldFrom):
+            self.assertIsInstance(node.parent, ast.Expr, place)
+            above = node
+            while not isinstance(above, ast.FunctionDef):
+                above = above.parent
+                self.assertNotIsInstance(above, ast.Try, place)
 
     def test_comparisons_by_is(self):
         for place, node in self.each(ast.Compare):
@@ -461,6 +473,16 @@ class Interface(unittest.TestCase):
         "growing": "never_two growth doubling doubling_fault Growth Doubling",
         "plaindays": "known_on plain_days",
         "samehouses": "alike_from alike_hands UnlikeDays",
+        "housecharts": "as_chart story_filling",
+        "finders": "finder_chart passing_posts gaps_of steps_to_pass mean_turns order_with_gaps customs_agree Finder",
+        "weighing": "weight_of weight_sum back_shares weighed_posts weighed_outs weighed_worths same_as_seldom "
+                    "weighed_chart drawn_in Nothing",
+        "guesses": "outs_borne answers_of check_looks check_pool fitting_charts hidden_entries",
+        "plans": "untold_lots surely_told telling_ins fewest_looks look_plan plan_fault",
+        "dayings": "with_days fewest_letters Lettering",
+        "changes": "edited_chart check_edits",
+        "mends": "check_goal goal_holds find_mends find_spoilers steady_picks",
+        "bench": "Bench",
     }
     METHODS = {"Box": "is_sure made_by with_entry on_day __eq__", "Chart": "is_sure with_box with_day with_outs __eq__",
                "Counts": "number_at __eq__", "Sure": "__eq__", "Two": "__eq__", "Walk": "__eq__", "OneRing": "__eq__",
@@ -469,7 +491,8 @@ class Interface(unittest.TestCase):
                "House": "all_couples all_steps entry_of with_row exchanged mirrored __eq__",
                "Round": "first_from many_below __contains__ __and__ __or__ __invert__ __eq__", "Endless": "__eq__",
                "Ends": "__eq__", "OnDay": "__eq__", "Matters": "__eq__", "Growth": "__eq__", "Doubling": "__eq__",
-               "UnlikeDays": "__eq__"}
+               "UnlikeDays": "__eq__", "Finder": "__eq__", "Nothing": "__eq__", "Lettering": "__eq__",
+               "Bench": "log choose_ins choose_manner change ask holds take_back trying"}
     PARAMETERS = {
         "is_whole": "thing low high", "make_ratio": "top bottom", "is_filling": "sizes thing",
         "filling_number": "sizes filling", "filling_by_number": "sizes number", "place_of": "chart name",
@@ -520,7 +543,24 @@ class Interface(unittest.TestCase):
         "never_two": "house hand blank", "growth": "house hand blank", "doubling": "house hand blank",
         "doubling_fault": "house hand blank before one other after", "known_on": "house days hand blank",
         "plain_days": "house hand blank", "alike_from": "house hand other other_hand", "alike_hands": "house",
+        "as_chart": "house days", "story_filling": "story", "finder_chart": "finder", "passing_posts": "finder ins",
+        "gaps_of": "finder ins", "steps_to_pass": "finder ins post", "mean_turns": "finder ins",
+        "order_with_gaps": "many numbers gaps", "customs_agree": "finder ins", "weight_of": "chart ins filling",
+        "weight_sum": "chart ins", "back_shares": "chart ins turns", "weighed_posts": "chart ins",
+        "weighed_outs": "chart ins", "weighed_worths": "chart ins wire", "same_as_seldom": "chart",
+        "weighed_chart": "shares", "drawn_in": "chart wire shares", "outs_borne": "chart ins manner",
+        "answers_of": "chart ins manner", "check_looks": "chart looks", "check_pool": "pool",
+        "fitting_charts": "pool looks", "hidden_entries": "chart box filling looks", "untold_lots": "pool manner",
+        "surely_told": "pool manner", "telling_ins": "pool manner", "fewest_looks": "pool manner",
+        "look_plan": "pool manner", "plan_fault": "pool manner plan", "with_days": "chart days", "fewest_letters": "chart",
+        "edited_chart": "chart edits", "check_edits": "chart pool", "check_goal": "chart goal", "goal_holds": "chart goal",
+        "find_mends": "chart pool goal", "find_spoilers": "chart pool goal", "steady_picks": "chart pool goal",
     }
+
+    def test_generators(self):
+        functions = {node.name: node for _, tree in trees() for node in tree.body if isinstance(node, ast.FunctionDef)}
+        for name in self.GENERATORS:
+            self.assertTrue(walk(functions[name], ast.Yield, ast.YieldFrom), name)
 
     def test_names_stand_in_their_files(self):
         found = {name[:-3]: tree for name, tree in trees()}
@@ -549,7 +589,10 @@ class Interface(unittest.TestCase):
         "OnDay": "hands letters", "Matters": "back ahead", "Growth": "kind power", "Doubling": "before one other after",
         "UnlikeDays": "days blank number other_number", "entry_of": "hand letter", "with_row": "hand letter row",
         "exchanged": "hands letters", "mirrored": "", "first_from": "days", "many_below": "days",
+        "Finder": "ins letters checks order stay", "Lettering": "letters days", "Bench": "chart", "choose_ins": "ins",
+        "choose_manner": "manner", "change": "edit", "ask": "", "holds": "goal", "take_back": "many", "trying": "action",
     }
+    GENERATORS = ("fillings_of", "all_stories", "all_fewest", "all_days", "find_mends", "find_spoilers", "steady_picks")
 
     def test_parameters_of_methods(self):
         found = {}
