@@ -9,7 +9,7 @@ from alreadytold.ratios import is_whole
 
 
 class Answers:
-    """What charts of a pool answer at each ins: rows of couples (answer, the charts that can give it), None behind all."""
+    """What the charts of a pool answer: for each ins a row of couples (answer, the charts that can give it)."""
 
     def __init__(self, pool, manner):
         self.pool = check_pool(pool)
@@ -103,8 +103,7 @@ def telling_ins(pool, manner):
     left = whole
     for place, row in enumerate(parted):
         # The first ins that the fewest can begin with makes the first of such lots.
-        rest = needs[place + 1][left & ~row]
-        if left != 0 and rest is not None and rest + 1 == needs[place][left]:
+        if needs[place + 1][left & ~row] + 1 == needs[place][left]:
             chosen.append(answers.each_ins[place])
             left = left & ~row
     return tuple(chosen)
@@ -172,7 +171,7 @@ def _is_answer(thing, answer):
     """Tell whether a thing is this answer; True and False are no worths."""
     if answer is None:
         return thing is None
-    return isinstance(thing, tuple) and thing == answer and [worth for worth in thing if not is_whole(worth)] == []
+    return thing == answer and [worth for worth in thing if not is_whole(worth)] == []
 
 
 def _node_fault(answers, plan, left, looks):

@@ -197,7 +197,8 @@ class Plans(unittest.TestCase):
         for thing in ODD_THINGS + ["told", ("told",), ("told", 3), ("told", -1), ("told", True), ("told", 0, 0), ("tell", 0),
                                    ("ask", (1,)), ("ask", (1,), one[2], 0), ("ask", (1,), 5), ("ask", (1,), None),
                                    ("ask", (1,), (5,)), ("ask", (1,), ((0,),)), ["told", 0], list(one), (None, 0), ([], 0),
-                                   ("ask", (1,), list(one[2]))]:
+                                   ("ask", (1,), list(one[2])), ("told", (1,), one[2]), ("asks", (1,), one[2]),
+                                   ("ask", 0)]:
             self.assertEqual(fault(thing), "plan", thing)
             self.assertEqual(fault(("ask", [1], (((0,), thing),) + one[2][1:])), "plan")
         for ins in ODD_THINGS + [(3,), (0, 0), (True,), "1"]:
