@@ -3,9 +3,9 @@
 from alreadytold.charts import all_ins, check_ins, check_wire, posts_of
 from alreadytold.errors import BadCustom, BadShares, BadSlip
 from alreadytold.grounding import known_worths
-from alreadytold.ratios import compare, is_whole, make_ratio, sum_of
+from alreadytold.ratios import compare, is_whole, sum_of
 from alreadytold.rings import rings_of
-from alreadytold.scaling import whole_parts
+from alreadytold.scaling import mean_ratio, whole_parts
 from alreadytold.seldom import seldom
 from alreadytold.single import single
 from alreadytold.slips import check_slip, slipped
@@ -92,11 +92,7 @@ def _shown_shares(chart, ins, place):
 def _mean_shares(shown, shares):
     """Return for each worth the mean, by shares of the posts, of the shares with which they show it."""
     tops, bottom = whole_parts(shares)
-    means = []
-    for row in shown:
-        parts, whole = whole_parts(row)
-        means.append(make_ratio(sum([top * part for top, part in zip(tops, parts)]), bottom * whole))
-    return tuple(means)
+    return tuple([mean_ratio(tops, bottom, row) for row in shown])
 
 
 def worth_shares(chart, ins, custom, name):

@@ -2,7 +2,7 @@
 
 from math import gcd, lcm
 
-from alreadytold.ratios import ZERO
+from alreadytold.ratios import ZERO, make_ratio
 
 
 def whole_parts(ratios):
@@ -11,6 +11,12 @@ def whole_parts(ratios):
     for ratio in ratios:
         bottom = lcm(bottom, ratio[1])
     return [ratio[0] * (bottom // ratio[1]) for ratio in ratios], bottom
+
+
+def mean_ratio(tops, bottom, ratios):
+    """Return the mean of ratios by shares that are told as tops over one bottom."""
+    parts, whole = whole_parts(ratios)
+    return make_ratio(sum([top * part for top, part in zip(tops, parts)]), bottom * whole)
 
 
 def whole_rows(ratio_rows):

@@ -3,8 +3,9 @@
 from alreadytold.charts import check_ins, posts_of
 from alreadytold.errors import BadOuts, BadShare, BadShares
 from alreadytold.lots import closed_of, moves_of
-from alreadytold.ratios import ONE, ZERO, compare, is_ratio, minus, over, plus, sum_of, times
+from alreadytold.ratios import ONE, compare, is_ratio, minus, over, plus, sum_of, times
 from alreadytold.rings import posts_numbered
+from alreadytold.scaling import mean_ratio, whole_parts
 from alreadytold.staying import shares_stay
 from alreadytold.tables import shares_of_lot
 from alreadytold.turning import check_shares, turning_table
@@ -30,13 +31,15 @@ def outs_of(chart, ins, shares):
     """Return (outs, share) for all outs with a share above 0, ascending."""
     ins = check_ins(chart, ins)
     shares = check_shares(chart, shares)
+    tops, bottom = whole_parts(shares)
     parts = {}
-    for post, share in zip(posts_of(chart), shares):
-        if share != ZERO:
+    for number, post in enumerate(posts_of(chart)):
+        if tops[number] != 0:
             for filling, _, part in worked(chart, ins, post):
                 outs = worths_at(chart, filling, chart.outs)
-                parts.setdefault(outs, []).append(times(share, part))
-    return tuple([(outs, sum_of(parts[outs])) for outs in sorted(parts)])
+                parts.setdefault(outs, [[] for _ in shares])[number].append(part)
+    # Of one post the parts are short, so they are summed up before the long shares of the posts come to them.
+    return tuple([(outs, mean_ratio(tops, bottom, [sum_of(row) for row in parts[outs]])) for outs in sorted(parts)])
 
 
 def _check_outs(chart, outs):
@@ -63,7 +66,8 @@ def _span_rows(chart, ins, outs):
     rows = []
     for lot in closed_of(moves_of(table)):
         own = shares_of_lot(table, lot)
-        rows.append((sum_of([times(own[number], shown[number]) for number in lot]), lot, own))
+        tops, bottom = whole_parts(own)
+        rows.append((mean_ratio(tops, bottom, shown), lot, own))
     return rows
 
 
@@ -115,5 +119,5 @@ def staying_fault(chart, ins, outs, share, shares):
         return "shares"
     if not shares_stay(chart, ins, shares):
         return "stays"
-    shown = sum_of([times(part, given) for part, given in zip(shares, _outs_shares(chart, ins, outs))])
-    return None if shown == share else "share"
+    tops, bottom = whole_parts(shares)
+    return None if mean_ratio(tops, bottom, _outs_shares(chart, ins, outs)) == share else "share"

@@ -6,11 +6,14 @@ from fractions import Fraction
 from math import gcd
 
 from alreadytold.leading import lasting_terms
+from alreadytold.lots import least_walk, turned_about, turns_to
 from alreadytold.nearing import is_surely_near
-from alreadytold.scaling import whole_rows
+from alreadytold.scaling import mean_ratio, whole_parts, whole_rows
 from alreadytold.sizing import coprime_base, powers_in
 from alreadytold.solving import leaking_answers
-from samples import fraction, ratio, ringed_charts, slow_slipped, slow_solve, slow_table
+from alreadytold.stepping import LotWalk
+from alreadytold.wires import is_order
+from samples import ODD_THINGS, fraction, random_shares, ratio, ringed_charts, slow_slipped, slow_solve, slow_table
 
 
 class Sizes(unittest.TestCase):
@@ -26,6 +29,68 @@ class Sizes(unittest.TestCase):
                 for part, power in zip(base, powers_in(number, base)):
                     whole *= part ** power
                 self.assertEqual(whole, number)
+
+
+class Means(unittest.TestCase):
+    def test_mean_by_shares(self):
+        rng = random.Random(505)
+        for _ in range(60):
+            many = rng.randint(1, 6)
+            shares = random_shares(rng, many)
+            ratios = [ratio(Fraction(rng.randint(-4, 9), rng.randint(1, 9))) for _ in range(many)]
+            tops, bottom = whole_parts(shares)
+            mean = sum(fraction(share) * fraction(part) for share, part in zip(shares, ratios))
+            self.assertEqual(mean_ratio(tops, bottom, ratios), ratio(mean))
+
+
+class Orders(unittest.TestCase):
+    def test_orders(self):
+        self.assertTrue(is_order([], 0) and is_order((2, 0, 1), 3) and is_order([1, 0], 2))
+        for thing in ODD_THINGS + [(0, 1, 1), (0, 1), (0, 1, 3), (0, 1, 2, 3), (0, True, 2), (0.0, 1, 2), "012", {0: 0, 1: 1, 2: 2}]:
+            self.assertFalse(is_order(thing, 3), thing)
+
+
+def random_moves(rng, many):
+    return [sorted(rng.sample(range(many), rng.choice([0, 1, 1, 2]) if many > 1 else 0)) for _ in range(many)]
+
+
+class Moves(unittest.TestCase):
+    def test_turned_about(self):
+        rng = random.Random(506)
+        for _ in range(60):
+            moves = random_moves(rng, rng.randint(1, 7))
+            back = turned_about(moves)
+            self.assertEqual({(i, j) for i, row in enumerate(moves) for j in row},
+                             {(i, j) for j, row in enumerate(back) for i in row})
+            self.assertTrue(all(row == sorted(row) for row in back))
+            self.assertEqual(turned_about(back), moves)
+
+    def test_least_walks(self):
+        rng = random.Random(507)
+        walks = 0
+        for _ in range(80):
+            moves = random_moves(rng, 6)
+            turns = turns_to(moves, [0])
+            for here in range(6):
+                if turns[here] is None:
+                    continue
+                found = [[here]]
+                for _ in range(turns[here]):
+                    found = [walk + [lead] for walk in found for lead in moves[walk[-1]]]
+                self.assertEqual(least_walk(moves, turns, here), min(walk for walk in found if walk[-1] == 0))
+                walks += turns[here] > 1
+        self.assertGreater(walks, 20)
+
+    def test_lots_after_many_moves(self):
+        rng = random.Random(508)
+        for _ in range(60):
+            moves = random_moves(rng, 6)
+            lot = tuple(sorted(rng.sample(range(6), 2)))
+            walk = LotWalk(moves, lot)
+            self.assertEqual(len(set(walk.lots)), len(walk.lots))
+            for turns in range(40):
+                self.assertEqual(walk.lot_after(turns), lot)
+                lot = tuple(sorted({lead for number in lot for lead in moves[number]}))
 
 
 class Flows(unittest.TestCase):
