@@ -132,7 +132,7 @@ def doubling_fault(house, hand, blank, before, one, other, after):
             return "couple"
     if len(before) == 0:
         return "couple"
-    before, one, other, after = [[tuple(couple) for couple in thing] for thing in (before, one, other, after)]
+    before, one, other, after = [[tuple(couple) for couple in row] for row in (before, one, other, after)]
     if before[0][0] != hand:
         return "hand"
     if _has_wrong_loop(before, one, other):

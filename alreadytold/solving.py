@@ -3,15 +3,18 @@
 Their answers may have thousands of figures. Elimination would meet such numbers at
 every step; therefore the equations are inverted once with remainders by a modulus
 only, and the answers are drawn from it figure by figure (each figure is below the
-modulus), until just one ratio can be meant.
+modulus), until just one ratio can be meant or short ones are found to solve the equations.
 
 Flows are told as away[k], which has a whole number for each move from place k to
 another place, and leaving[k], what leaves place k in all: at least the sum of away[k].
 """
 
+from math import isqrt
+
 SMALL_MODULUS = 2 ** 61 - 1
 LARGE_MODULUS = (1 << 521) - 1
 MOST_BITS_FOR_SMALL = 4000
+EARLY_FIGURES = 8
 
 
 def _inverse_of(number, modulus):
@@ -76,20 +79,9 @@ def _joined_figures(figures, modulus):
     return figures[0]
 
 
-def _drawn_answers(square, right, modulus, inverse, most):
-    """Return the answers of the equations up to a power of the modulus above most, and the power."""
-    parts = [[(place, number) for place, number in enumerate(row) if number != 0] for row in square]
-    drawn = []
-    rest = list(right)
-    power = 1
-    while power <= most:
-        small = [number % modulus for number in rest]
-        newest = [sum([number * part for number, part in zip(row, small)]) % modulus for row in inverse]
-        drawn.append(newest)
-        taken = [sum([number * newest[place] for place, number in row]) for row in parts]
-        rest = [(number - less) // modulus for number, less in zip(rest, taken)]
-        power = power * modulus
-    return [_joined_figures([figures[place] for figures in drawn], modulus) for place in range(len(right))], power
+def _joined_rows(drawn, modulus):
+    """Return for each place the number whose figures are drawn there."""
+    return [_joined_figures([figures[place] for figures in drawn], modulus) for place, _ in enumerate(drawn[0])]
 
 
 def _bottom_of(answer, power, most):
@@ -109,7 +101,7 @@ def _signed(number, power):
 
 
 def _whole_answers(answers, power, most):
-    """Return the tops of the ratios that the answers mean, and their common bottom."""
+    """Return the tops of the ratios that the answers mean, and their common bottom, None if it is above most."""
     tops = []
     bottom = 1
     for answer in answers:
@@ -119,8 +111,42 @@ def _whole_answers(answers, power, most):
             tops = [factor * known for known in tops]
             bottom = factor * bottom
             top = _signed(top * factor % power, power)
+        if bottom > most:
+            return None
         tops.append(top)
     return tops, bottom
+
+
+def _are_solved(parts, right, tops, bottom):
+    """Tell whether answers, as tops over one bottom, solve the equations."""
+    for row, number in zip(parts, right):
+        if sum([part * tops[place] for place, part in row]) != number * bottom:
+            return False
+    return True
+
+
+def _drawn_answers(square, right, modulus, inverse, limits):
+    """Return the tops of the answers of the equations and their common bottom; limits bound both."""
+    enough = 2 * limits[0] * limits[1]
+    parts = [[(place, number) for place, number in enumerate(row) if number != 0] for row in square]
+    drawn = []
+    rest = list(right)
+    power = 1
+    early = EARLY_FIGURES
+    while power <= enough:
+        small = [number % modulus for number in rest]
+        newest = [sum([number * part for number, part in zip(row, small)]) % modulus for row in inverse]
+        drawn.append(newest)
+        taken = [sum([number * newest[place] for place, number in row]) for row in parts]
+        rest = [(number - less) // modulus for number, less in zip(rest, taken)]
+        power = power * modulus
+        if len(drawn) == early:
+            # Short answers show themselves long before all figures are drawn, and solving is proof enough.
+            early = 8 * early
+            found = _whole_answers(_joined_rows(drawn, modulus), power, isqrt(power) // 2)
+            if found is not None and _are_solved(parts, right, found[0], found[1]):
+                return found
+    return _whole_answers(_joined_rows(drawn, modulus), power, limits[0])
 
 
 def leaking_answers(away, leaving, rights):
@@ -140,8 +166,7 @@ def leaking_answers(away, leaving, rights):
     rows = []
     for right in rights:
         greatest = most * max(1, sum([abs(number) for number in right]))
-        answers, power = _drawn_answers(square, right, modulus, inverse, 2 * greatest * most)
-        rows.append(_whole_answers(answers, power, greatest))
+        rows.append(_drawn_answers(square, right, modulus, inverse, (greatest, most)))
     return rows
 
 

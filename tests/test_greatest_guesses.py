@@ -87,6 +87,11 @@ class Soon(unittest.TestCase):
         chart = Chart(INS + WIRES, boxes, ["a", "b", "c"])
         self.assertEqual((len(all_ins(chart)), len(posts_of(chart))), (64, 64))
         self.assertIsNone(same_as_seldom(chart))
+        # The same with long numbers: the shares are short though the equations are not.
+        rows = [[long_entry(rng) for _ in range(4)] for _ in WIRES]
+        boxes = [Box(0, [INS[k % 3], INS[(k + 1) % 3]] + [WIRES[(k + step) % 6] for step in range(4)], [wire],
+                     [rows[k][number // 16] for number in range(64)]) for k, wire in enumerate(WIRES)]
+        self.assertIsNone(same_as_seldom(Chart(INS[:3] + WIRES, boxes, ["a", "b", "c"])))
 
     def test_long_shares_drawn_in(self):
         rng = random.Random(905)

@@ -108,6 +108,31 @@ class Flows(unittest.TestCase):
 
 
 class Leading(unittest.TestCase):
+    def test_long_answers(self):
+        # What could be meant by a few figures is no answer, unless it solves the equations.
+        rng = random.Random(510)
+        for number in range(60):
+            many, length = rng.randint(1, 3), rng.choice([10 ** 150, 10 ** 300, 10 ** 1500])
+            away = [[0 if i == j else rng.randrange(length) for j in range(many)] for i in range(many)]
+            leaving = [sum(row) + rng.randrange(1, length) for row in away]
+            right = [rng.choice([-1, 1]) * rng.randrange(rng.choice([9, length, length ** 2])) for _ in range(many)]
+            square = [[leaving[i] if i == j else -away[j][i] for j in range(many)] for i in range(many)]
+            found, bottom = leaking_answers(away, leaving, [right])[0]
+            self.assertEqual([Fraction(top, bottom) for top in found], slow_solve(square, [right])[0])
+
+    def test_short_answers_of_long_numbers(self):
+        # The answers are short ratios, though the numbers would let very long ones be meant.
+        rng = random.Random(509)
+        for many, length in [(3, 10 ** 60), (6, 10 ** 200), (24, 10 ** 300)]:
+            for bottom in (1, 7, 10 ** 20 + 39):
+                away = [[0 if i == j else bottom * rng.randrange(length) for j in range(many)] for i in range(many)]
+                leaving = [sum(row) + bottom * rng.randrange(1, length) for row in away]
+                tops = [rng.randint(-9, 9) for _ in range(many)]
+                sides = [leaving[i] * tops[i] - sum(away[j][i] * tops[j] for j in range(many)) for i in range(many)]
+                self.assertEqual([side % bottom for side in sides], [0] * many)
+                found, whole = leaking_answers(away, leaving, [[side // bottom for side in sides]])[0]
+                self.assertEqual([Fraction(top, whole) for top in found], [Fraction(top, bottom) for top in tops])
+
     def test_against_a_small_number(self):
         rng = random.Random(503)
         e = Fraction(1, 10 ** 40)
