@@ -55,12 +55,10 @@ def weight_sum(chart, ins):
     return sum_of([_weight(chart, filling) for filling in all_stories(chart, ins)])
 
 
-def _rows_after(rows, turns):
-    """Return (tops, bottom) of the shares after so many turns for a beginning in each number."""
+def _turned_rows(begun, rows, turns):
+    """Return the shares, told as (tops, bottom), after so many turns of each of those with which one begins."""
     after = []
-    for number, _ in enumerate(rows):
-        tops = [1 if other == number else 0 for other, _ in enumerate(rows)]
-        bottom = 1
+    for tops, bottom in begun:
         for _ in range(turns):
             tops, factor = turned(tops, rows)
             tops, bottom = lightened(tops, bottom * factor, factor)
@@ -75,9 +73,10 @@ def back_shares(chart, ins, turns):
         raise BadTurns(turns)
     rows = whole_rows(turning_table(chart, ins))
     base = base_of(rows, 1)
+    begun = [([1 if other == number else 0 for other, _ in enumerate(rows)], 1) for number, _ in enumerate(rows)]
     # Half of the turns there and the other half back: so the numbers stay half as long.
-    there = _rows_after(rows, turns // 2)
-    back = there if turns % 2 == 0 else _rows_after(rows, turns - turns // 2)
+    there = _turned_rows(begun, rows, turns // 2)
+    back = _turned_rows(there, rows, turns % 2)
     back_bottom = 1
     for _, bottom in back:
         back_bottom = lcm(back_bottom, bottom)
